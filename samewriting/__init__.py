@@ -1,0 +1,1 @@
+"""Samewriting: whether two programs that fold trees write the same out of every tree."""

@@ -203,3 +203,61 @@ def nodes_in(tree):
 
 def levels_in(tree):
     return 1 + max([levels_in(child) for child in tree[1:]], default=0)
+
+
+def random_numbers(choose, kinds, even=False):
+    """A number reader of at most three states and two rooms."""
+    trees = random_set(choose, kinds, 3)
+    rooms = choose.randint(1, 2)
+    ranks = dict(kinds)
+
+    def factors_of(rank):
+        if even:
+            return [(child, choose.randrange(rooms)) for child in range(rank) if choose.random() < 0.6]
+        return [(choose.randrange(rank), choose.randrange(rooms)) for _ in range(choose.randint(0, 2))] if rank else []
+
+    def some(rank):
+        terms = [(choose.choice((-2, -1, 1, 3)),) + tuple(factors_of(rank)) for _ in range(choose.randint(0, 2))]
+        return poly(*terms)
+    return numbers_of(trees, rooms, lambda name, states: tuple(some(ranks[name]) for _ in range(rooms)),
+                      lambda state: some(1) if choose.random() < 0.7 else None)
+
+
+def plain_value(polynomial, kids):
+    """What a polynomial is at the worths of children."""
+    total = 0
+    for powers, number in polynomial:
+        for (child, room), many in powers:
+            for _ in range(many):
+                number *= kids[child][room]
+        total += number
+    return total
+
+
+def plain_worths(numbers, tree):
+    """The worths of a tree, told straight from the words of the document."""
+    place = 0
+    for child in tree[1:]:
+        place = place * numbers[1][2] + plain_state(numbers[1], child)
+    kind = [name for name, _ in numbers[1][1]].index(tree[0])
+    kids = [plain_worths(numbers, child) for child in tree[1:]]
+    return tuple(plain_value(polynomial, kids) for polynomial in numbers[3][kind][place])
+
+
+def plain_told(numbers, tree):
+    """The number told of a tree, None if it is not let by."""
+    end = numbers[4][plain_state(numbers[1], tree)]
+    return None if end is None else plain_value(end, [plain_worths(numbers, tree)])
+
+
+def with_turned_rooms(choose, numbers):
+    """The same reader, with its rooms in another sequence."""
+    order = list(range(numbers[2]))
+    choose.shuffle(order)
+
+    def turned(polynomial):
+        return tuple(sorted((tuple(sorted(((child, order[room]), many) for (child, room), many in powers)), number)
+                            for powers, number in polynomial))
+    rows = tuple(tuple(tuple(turned(worths[order.index(room)]) for room in range(numbers[2])) for worths in row)
+                 for row in numbers[3])
+    return numbers[:3] + (rows, tuple(None if end is None else turned(end) for end in numbers[4]))

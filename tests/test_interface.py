@@ -1,0 +1,78 @@
+import ast
+import inspect
+import os
+import unittest
+from importlib import import_module
+
+import samewriting
+
+INTERFACE = (
+    ("errors", ""), ("words", "is_name(thing)"),
+    ("trees", "is_kinds(thing) is_tree(kinds,thing) size(kinds,tree) depth(kinds,tree) part(kinds,tree,path) "
+              "with_part(kinds,tree,path,other) trees_of(kinds,many) count(kinds,many)"),
+    ("sets", "is_set(thing) state_of(trees,tree) is_in(trees,tree) least_trees(trees) least_in(trees) in_order(trees,many) "
+             "number_in(trees,many) is_finite(trees)"),
+    ("joins", "contrary(trees) both(one,other) either(one,other) alone(kinds,tree) inside(one,other) least(trees)"),
+    ("polynomials", "is_polynomial(thing) variables_of(polynomial) degree_of(polynomial) first_term(polynomial) plus(one,other) "
+                    "times(one,other) scaled(polynomial,number) cleared(polynomial) put_in(polynomial,worths) "
+                    "value_at(polynomial,worths)"),
+    ("numbers", "is_numbers(thing) worths(numbers,tree) number_told(numbers,tree) kept(numbers,trees)"),
+    ("sides", "met(one,other)"),
+    ("spaces", "space_of(width,rows) is_stairs(width,thing) combination(width,rows,row) is_combination(width,rows,row,thing) "
+               "across(width,rows)"),
+    ("dividing", "divided(polynomial,several) overlap(one,other) is_basis(thing)"),
+    ("sums", "is_paper(one,other,thing)"),
+    ("evens", "is_even(numbers) basis(numbers) shares(numbers,tree) ties(numbers) same_even(one,other)"),
+    ("readers", "is_reader(thing) rooms_at(reader,tree) lets_by(reader,tree) written(reader,tree) domain(reader)"),
+    ("vanishing", "powers_to(variables,degree) equations_at(variables,points,degree)"),
+    ("sameness", "equations_of(one,other,degree,size) sameness(one,other,degree,size)"))
+
+FOLDER = os.path.dirname(samewriting.__file__)
+
+
+class Interface(unittest.TestCase):
+    def test_names_and_parameters(self):
+        for module, functions in INTERFACE:
+            held = import_module("samewriting." + module)
+            for function in functions.split():
+                name, parameters = function[:-1].split("(")
+                told = getattr(held, name)
+                self.assertEqual(told.__module__, held.__name__)
+                self.assertEqual(",".join(inspect.signature(told).parameters), parameters, name)
+
+    def test_init_defines_nothing(self):
+        with open(os.path.join(FOLDER, "__init__.py"), encoding="ascii") as held:
+            told = ast.parse(held.read())
+        self.assertEqual([node.__class__ for node in told.body], [ast.Expr])
+
+    def test_modules_import_from_earlier_ones_alone(self):
+        uses = {}
+        for name in os.listdir(FOLDER):
+            if name.endswith(".py"):
+                with open(os.path.join(FOLDER, name), encoding="ascii") as held:
+                    told = ast.parse(held.read())
+                uses[name[:-3]] = [node.module.split(".")[1] for node in ast.walk(told) if isinstance(node, ast.ImportFrom)
+                                   and node.module.startswith("samewriting.")]
+        order = [module for module, _ in INTERFACE]
+        for place, module in enumerate(order):
+            found = list(uses[module])
+            for used in found:
+                found.extend(further for further in uses[used] if further not in found)
+            for used in found:
+                self.assertNotIn(used, order[place:], module)
+
+    def test_sizes(self):
+        for name in os.listdir(FOLDER):
+            if name.endswith(".py"):
+                with open(os.path.join(FOLDER, name), encoding="ascii") as held:
+                    text = held.read()
+                rows = text.splitlines()
+                self.assertLess(len(rows), 400, name)
+                self.assertTrue(all(len(row) <= 120 and "\t" not in row for row in rows), name)
+                for node in ast.walk(ast.parse(text)):
+                    if isinstance(node, ast.FunctionDef):
+                        self.assertLessEqual(node.end_lineno - node.lineno + 1, 40, node.name)
+
+
+if __name__ == "__main__":
+    unittest.main()

@@ -110,9 +110,14 @@ def unit_rows(width):
     return [[int(place == spot) for place in range(width)] for spot in range(width)]
 
 
-def narrowed(equations, row):
-    """The stairs of what is 0 with the row too, of all that equations, stairs, tell; None if all of it is so."""
+def narrowed(equations, row, prime=0):
+    """The stairs of what is 0 with the row too, of all that equations, stairs, tell; None if all of it is so.
+
+    If a prime is told, remainders by it are meant throughout, and heads may be any numbers.
+    """
     told = [product_of(equation, row) for equation in equations]
+    if prime:
+        told = [number % prime for number in told]
     spots = [spot for spot, number in enumerate(told) if number]
     if not spots:
         return None
@@ -124,5 +129,5 @@ def narrowed(equations, row):
             found.append(equation)
         elif spot != last:
             fresh = [told[last] * x - told[spot] * y for x, y in zip(equation, equations[last])]
-            found.append(_pointed(fresh, head_of(fresh)))
+            found.append([number % prime for number in fresh] if prime else _pointed(fresh, head_of(fresh)))
     return found

@@ -1,7 +1,8 @@
 """Making papers: equations of pairs, put into rows, are divided by those of the children's pairs."""
 
 from samewriting.packed import degree_packed, for_child, packed, put, unpacked
-from samewriting.putting import EASY, MOST_DEGREE, MOST_TERMS, PRIME, formal_degree, has_degree, putting_cost
+from samewriting.putting import (EASY, MOST_DEGREE, MOST_TERMS, PRIME, formal_degree, has_degree, has_more_terms,
+                                  putting_cost)
 from samewriting.reducing import divided_within, divisor_of, may_divide
 from samewriting.walks import tuples_below
 
@@ -69,6 +70,9 @@ class PaperMaker:
         highest = formal_degree(equation, worths)
         most = MOST_DEGREE + max([degree_packed(divisor[0]) for divisor in divisors], default=0)
         if highest > most and has_degree(equation, worths, highest):
+            return False
+        longest = MOST_TERMS * sum([1 + len(divisor[2]) for divisor in divisors])
+        if has_more_terms(equation, worths, longest):
             return False
         return may_divide(put(equation, worths, PRIME), divisors, LIMITS)
 

@@ -1,4 +1,7 @@
-"""All powers of some variables, and rows of coefficients for them."""
+"""All powers of some variables, and the polynomials in them that are 0 at points."""
+
+from samewriting.linear import narrowed, unit_rows
+from samewriting.putting import PRIME
 
 
 def powers_up_to(variables, degree):
@@ -15,7 +18,36 @@ def _powers_written(row):
     return tuple([(variable, row.count(variable)) for variable in sorted(set(row))])
 
 
-def row_at(powers, places, point):
+def equations_through(variables, degree, points):
+    """The polynomials, as stairs, of all those of at most this degree that are 0 at the points."""
+    powers = powers_up_to(variables, degree)
+    places = {variable: place for place, variable in enumerate(variables)}
+    picked = _telling_points(powers, places, points)
+    if len(picked) == len(powers):
+        return ()
+    rows = unit_rows(len(powers))
+    # The other points bring nothing new, unless the prime divides it: that is seen here.
+    for point in picked + list(points):
+        fewer = narrowed(rows, _row_at(powers, places, point))
+        if fewer is not None:
+            rows = fewer
+    return tuple([polynomial_of(powers, row) for row in rows])
+
+
+def _telling_points(powers, places, points):
+    """Points that surely bring something new each, found by remainders: so long numbers are kept out."""
+    left = unit_rows(len(powers))
+    picked = []
+    for point in points:
+        row = _row_at(powers, places, [number % PRIME for number in point])
+        fewer = narrowed(left, [number % PRIME for number in row], PRIME)
+        if fewer is not None:
+            picked.append(point)
+            left = fewer
+    return picked
+
+
+def _row_at(powers, places, point):
     """The numbers that powers are at a point, each variable's number standing at its place."""
     told = []
     for some in powers:

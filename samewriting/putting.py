@@ -18,8 +18,9 @@ def put_within(polynomial, worths):
     highest = formal_degree(polynomial, worths)
     if highest > MOST_DEGREE and has_degree(polynomial, worths, highest):
         raise TooMany(MOST_DEGREE)
-    if highest <= MOST_DEGREE and putting_cost(polynomial, worths) > EASY:
-        _refuse_terms(polynomial, worths)
+    is_long = highest <= MOST_DEGREE and putting_cost(polynomial, worths) > EASY
+    if is_long and has_more_terms(polynomial, worths, MOST_TERMS):
+        raise TooMany(MOST_TERMS)
     told = put(polynomial, worths)
     check_bounds(told)
     return told
@@ -109,19 +110,20 @@ def remainder_put(polynomial, worths):
     return told % PRIME
 
 
-def _refuse_terms(polynomial, worths):
-    """TooMany if the result, of a degree of at most 40, surely has more than 400 terms.
+def has_more_terms(polynomial, worths, most):
+    """Whether the result surely has more terms.
 
     With numbers in the place of some variables no polynomial gets more terms: so the variables are
     let in one by one, and what is far too long is seen while it is still short.
     """
-    full = {variable: {unit(variable[0], variable[1]): 1} for powers, _ in polynomial for variable, _ in powers}
-    full.update(worths)
+    whole = [variable for powers, _ in polynomial for variable, _ in powers]
+    full = {variable: worths.get(variable, {unit(variable[0], variable[1]): 1}) for variable in whole}
     used = sorted({variable for key in full for mono in full[key] for variable, _ in powers_packed(mono)})
     for many in range(1, len(used)):
         images = {key: _image(full[key], used[:many]) for key in full}
-        if len(put(polynomial, images, PRIME)) > MOST_TERMS:
-            raise TooMany(MOST_TERMS)
+        if len(put(polynomial, images, PRIME)) > most:
+            return True
+    return False
 
 
 def _image(terms, kept):

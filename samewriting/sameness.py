@@ -1,11 +1,10 @@
 """Whether two number readers are the same: by equations of the rooms of pairs, or by a tree that parts them."""
 
 from samewriting.errors import BadDegree, BadSize, TooMany
-from samewriting.linear import narrowed, unit_rows
 from samewriting.numbers import check_digits
 from samewriting.pairing import check_sides, sides_of
 from samewriting.papers import PaperMaker
-from samewriting.powers import polynomial_of, powers_up_to, row_at
+from samewriting.powers import equations_through
 from samewriting.putting import PRIME
 from samewriting.trees import counts_to, trees_of_sizes
 from samewriting.values import is_between
@@ -117,17 +116,8 @@ def equations_of(one, other, degree, size):
 
 def _equations(sides, sample, degree):
     variables = [(0, room) for room in range(sides.rooms)]
-    powers = powers_up_to(variables, degree)
-    places = {variable: place for place, variable in enumerate(variables)}
-    found = []
-    for pair in range(len(sides.pairs)):
-        rows = unit_rows(len(powers))
-        for point in sample.points_of(pair):
-            fewer = narrowed(rows, row_at(powers, places, point))
-            if fewer is not None:
-                rows = fewer
-        found.append(tuple([polynomial_of(powers, row) for row in rows]))
-    return tuple(found)
+    pairs = range(len(sides.pairs))
+    return tuple([equations_through(variables, degree, sample.points_of(pair)) for pair in pairs])
 
 
 def sameness(one, other, degree, size):

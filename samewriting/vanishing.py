@@ -3,9 +3,8 @@
 from math import comb
 
 from samewriting.errors import BadDegree, BadPoints, BadVariables, TooMany
-from samewriting.linear import across_of
 from samewriting.polynomials import is_variable
-from samewriting.powers import polynomial_of, powers_up_to, row_at
+from samewriting.powers import equations_through, powers_up_to
 from samewriting.values import is_between, is_rising, is_row, is_whole
 
 MOST_POWERS = 60
@@ -43,10 +42,7 @@ def equations_at(variables, points, degree):
     _check_points(variables, points)
     _check_degree(degree)
     check_powers(len(variables), degree)
-    powers = powers_up_to(variables, degree)
-    places = {variable: place for place, variable in enumerate(variables)}
-    rows = [row_at(powers, places, point) for point in points]
-    return tuple([polynomial_of(powers, row) for row in across_of(len(powers), rows)])
+    return equations_through(variables, degree, points)
 
 
 def _check_points(variables, points):

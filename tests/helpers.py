@@ -12,6 +12,9 @@ ES = (("e", 0), ("s", 1))
 EFS = (("e", 0), ("f", 2), ("s", 1))
 E = ("e",)
 
+# What is seen by remainders of this prime must hold of its multiples too.
+PRIME = 2305843009213693951
+
 # Values of every kind that is none of the document's.
 ODD = (None, True, False, 0, 1, -1, 2.5, "", "a", "set", b"e", (), [], {}, ("e", 0), [("e", 0)], ((),), (None,), object(), int)
 

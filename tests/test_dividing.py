@@ -1,7 +1,7 @@
 from fractions import Fraction
 from math import gcd
 
-from helpers import ODD, Case, chance, poly, power, wrong_kinds
+from helpers import ODD, PRIME, Case, chance, poly, power, wrong_kinds
 from samewriting.dividing import divided, is_basis, overlap
 from samewriting.errors import BadPolynomial, BadPolynomials
 from samewriting.polynomials import cleared, degree_of, is_polynomial, plus, scaled, times
@@ -119,6 +119,15 @@ class Division(Case):
         told = divided(power(X, 40), (poly((1, X), (-2, Y)),))
         self.assertEqual(told[2], poly((2 ** 40,) + (Y,) * 40))
         self.assertEqual(divided(power(X, 40), (poly((3, X), (-1, Y)),))[0], 3 ** 40)
+
+    def test_numbers_that_a_prime_divides(self):
+        told = divided(power(X, 26), (poly((PRIME, X), (-1, Y), (-1, Z)),))
+        self.assertEqual((told[0], len(told[1][0]), len(told[2])), (PRIME ** 26, 351, 27))
+        told = divided(power(X, 26), (poly((1, X), (-PRIME, Y), (-PRIME, Z)),))
+        self.assertEqual((told[0], len(told[1][0]), len(told[2])), (1, 351, 27))
+        self.too_many(400, divided, power(X, 28), (poly((PRIME, X), (-1, Y), (-1, Z)),))
+        self.too_many(400, divided, power(X, 28), (poly((1, X), (-PRIME, Y), (-1, Z)),))
+        self.assertIs(is_basis((poly((PRIME, X, X), (1, Y)), poly((PRIME, X, Y), (1,)))), False)
 
     def test_chance(self):
         choose = chance(41)

@@ -1,4 +1,4 @@
-from helpers import ODD, Case, chance, poly, power, wrong_kinds, wrong_lengths
+from helpers import ODD, PRIME, Case, chance, poly, power, wrong_kinds, wrong_lengths
 from samewriting.errors import BadNumber, BadPolynomial, BadWorths
 from samewriting.polynomials import (cleared, degree_of, first_term, is_polynomial, plus, put_in, scaled, times, value_at,
                                      variables_of)
@@ -164,6 +164,13 @@ class PuttingIn(Case):
         # The powers of three variables with the degree 26 are 378, with the degree 27 there are 406.
         self.assertEqual(len(put_in(power(W, 26), ((W, three),))), 378)
         self.too_many(400, put_in, power(W, 27), ((W, three),))
+
+    def test_numbers_that_a_prime_divides(self):
+        self.too_many(40, put_in, poly((PRIME, X, X, X)), ((X, power(Y, 14)),))
+        three = poly((1, X), (1, Y), (1, Z))
+        self.too_many(400, put_in, poly((PRIME,) + (W,) * 27), ((W, three),))
+        self.assertEqual(len(put_in(poly((PRIME,) + (W,) * 26), ((W, three),))), 378)
+        self.assertEqual(put_in(poly((PRIME, X), (1, Y)), ((X, power(Z, 2)),)), poly((PRIME, Z, Z), (1, Y)))
 
     def test_far_too_much_is_refused_within_seconds(self):
         every = poly(*[(1, (child, room)) for child in range(4) for room in range(16)])

@@ -1,9 +1,10 @@
-from helpers import (EF, ES, ODD, Case, at_path, chance, cycle, exchanged, numbers_of, one_state, parts_of, poly, power,
+from helpers import (EF, ES, ODD, PRIME, Case, at_path, chance, cycle, exchanged, numbers_of, one_state, parts_of, poly, power,
                      random_kinds, random_numbers, with_turned_rooms, wrong_kinds, wrong_lengths)
 from papers import multiplies_out
 from samewriting.errors import BadNumbers, OtherKinds, TooMany
+from samewriting.dividing import divided
 from samewriting.evens import same_even
-from samewriting.polynomials import is_polynomial
+from samewriting.polynomials import is_polynomial, put_in
 from samewriting.sameness import sameness
 from samewriting.sides import met
 from samewriting.sums import is_paper
@@ -112,6 +113,23 @@ class IsPaper(Case):
                  (1, ((0, 1, poly((1, X), (1, Y))),))),)), ((1, ((0, 1, poly((1,))),)),))
         self.assertIs(is_paper(power_reader(2), power_reader(2), paper), True)
         self.assertIs(self.within(20, is_paper, power_reader(40), power_reader(40), paper), False)
+
+    def test_long_sums(self):
+        # (x + 1) ** 27 - (y + 1) ** 27 is x - y times a factor of 378 terms.
+        step = numbers_of(T, 1, lambda name, states: (poly((1,)) if name == "e" else poly((1, X), (1,)),), lambda state: poly((1, X)))
+        equation = poly((1,) + (X,) * 27, (-1,) + (Y,) * 27)
+        plain = poly((1, X), (-1, Y))
+        above = put_in(equation, ((X, poly((1, X), (1,))), (Y, poly((1, Y), (1,)))))
+        told = divided(above, (plain,))
+        self.assertEqual((told[0], len(told[1][0]), told[2]), (1, 378, ()))
+
+        def paper_with(factor):
+            return ("paper", ((plain, equation),), ((((1, ()), (1, ())),), (((1, ((0, 0, poly((1,))),)), (1, ((0, 0, factor),))),)),
+                    ((1, ((0, 0, poly((1,))),)),))
+        factor = told[1][0]
+        self.assertIs(is_paper(step, step, paper_with(factor)), True)
+        for often in (1, -1, PRIME, -PRIME):
+            self.assertIs(is_paper(step, step, paper_with(exchanged(factor, (100, 1), factor[100][1] + often))), False)
 
     def test_far_too_long_sums_are_refused_within_seconds(self):
         choose = chance(2)

@@ -1,6 +1,6 @@
 from math import comb
 
-from helpers import ODD, Case, chance, poly, power
+from helpers import ODD, PRIME, Case, chance, poly, power
 from samewriting.errors import BadDegree, BadPoints, BadVariables
 from samewriting.polynomials import is_polynomial, value_at
 from samewriting.spaces import across
@@ -52,6 +52,11 @@ class Equations(Case):
         self.assertEqual(equations_at((X,), (), 2), (power(X, 2), power(X, 1), poly((1,))))
         self.assertEqual(equations_at((X,), ((3,), (3,)), 1), (poly((1, X), (-3,)),))
         self.assertEqual(equations_at((X,), ((3,),), 0), ())
+
+    def test_numbers_that_a_prime_divides(self):
+        self.assertEqual(equations_at((X,), ((PRIME,),), 1), (poly((1, X), (-PRIME,)),))
+        self.assertEqual(equations_at((X,), ((0,), (PRIME,)), 1), ())
+        self.assertEqual(equations_at((X, Y), ((0, 0), (PRIME, 2 * PRIME)), 1), (poly((2, X), (-1, Y)),))
 
     def test_bad_points(self):
         for points in [value for value in ODD if value != ()] + [

@@ -1,10 +1,11 @@
 """Number readers: they fold trees into numbers, by polynomials."""
 
 from samewriting.errors import BadNumbers, OtherKinds, TooMany
+from samewriting.foldings import is_folding
 from samewriting.polynomials import is_polynomial
-from samewriting.sets import check_set, is_set, states_in
+from samewriting.sets import check_set, states_in
 from samewriting.trees import check_tree, listed
-from samewriting.values import is_between, is_row, is_word
+from samewriting.values import is_between
 from samewriting.valuing import Valuer
 from samewriting.walks import pairs_met, place_of, tuples_below
 
@@ -15,21 +16,7 @@ _GREATEST = 10 ** 40
 
 def is_numbers(thing):
     """Whether any value is a number reader."""
-    if not is_row(thing, 5) or not is_word(thing[0], "numbers"):
-        return False
-    trees, rooms, rows, ends = thing[1:]
-    if not is_set(trees) or not is_between(rooms, 1, 8):
-        return False
-    if not is_row(rows, len(trees[1])) or not is_row(ends, trees[2]):
-        return False
-    for pair, row, goals in zip(trees[1], rows, trees[3]):
-        if not is_row(row, len(goals)) or not all([_is_worths(worth, pair[1], rooms) for worth in row]):
-            return False
-    return all([end is None or _is_over(end, 1, rooms) for end in ends])
-
-
-def _is_worths(thing, rank, rooms):
-    return is_row(thing, rooms) and all([_is_over(polynomial, rank, rooms) for polynomial in thing])
+    return is_folding(thing, "numbers", _is_over)
 
 
 def _is_over(thing, rank, rooms):

@@ -6,8 +6,8 @@ from samewriting.putting import (EASY, MOST_DEGREE, MOST_TERMS, PRIME, formal_de
 from samewriting.reducing import divided_within, divisor_of, may_divide
 from samewriting.walks import tuples_below
 
-# No rest is let, and factors are polynomials.
-LIMITS = (0, MOST_TERMS, MOST_DEGREE)
+# No rest is let, and factors are polynomials: of at most 400 terms, of a degree of at most 40.
+LIMITS = (0, 400, 40)
 
 
 class PaperMaker:

@@ -1,8 +1,9 @@
 """Readers: they fold trees into texts, gathered from the leaves up."""
 
 from samewriting.errors import BadReader, NotLetBy, TooMany
+from samewriting.foldings import is_folding
 from samewriting.joins import least_of
-from samewriting.sets import is_set, states_in
+from samewriting.sets import states_in
 from samewriting.trees import check_tree, listed
 from samewriting.values import is_between, is_row, is_word
 from samewriting.walks import place_of
@@ -35,21 +36,7 @@ def _is_room(thing, rank, rooms):
 
 def is_reader(thing):
     """Whether any value is a reader."""
-    if not is_row(thing, 5) or not is_word(thing[0], "reader"):
-        return False
-    trees, rooms, rows, ends = thing[1:]
-    if not is_set(trees) or not is_between(rooms, 1, 8):
-        return False
-    if not is_row(rows, len(trees[1])) or not is_row(ends, trees[2]):
-        return False
-    for pair, row, goals in zip(trees[1], rows, trees[3]):
-        if not is_row(row, len(goals)) or not all([_are_rooms(told, pair[1], rooms) for told in row]):
-            return False
-    return all([end is None or _are_pieces(end, 1, rooms) for end in ends])
-
-
-def _are_rooms(thing, rank, rooms):
-    return is_row(thing, rooms) and all([_are_pieces(pieces, rank, rooms) for pieces in thing])
+    return is_folding(thing, "reader", _are_pieces)
 
 
 def check_reader(reader):

@@ -55,6 +55,17 @@ def one_state(kinds):
     return set_of(kinds, 1, lambda name, states: 0, (0,))
 
 
+def of_parts(kinds, parts):
+    """The set whose state k, the last one taken, has just the tree of part k, told as (name, number of a part, ..)."""
+    states = {(part[0], part[1:]): number for number, part in enumerate(parts)}
+    return set_of(kinds, len(parts) + 1, lambda name, below: states.get((name, below), len(parts)), (len(parts) - 1,))
+
+
+# A tree of 400 nodes, in 11 unlike parts: full ones of 1, 3, .., 255 nodes, and f of 255 and s of f of 127 and 15.
+FOUR_HUNDRED = (("e",), ("f", 0, 0), ("f", 1, 1), ("f", 2, 2), ("f", 3, 3), ("f", 4, 4), ("f", 5, 5), ("f", 6, 6),
+                ("f", 6, 3), ("s", 8), ("f", 7, 9))
+
+
 def cycle(many, takes=(), kinds=ES):
     """The set that counts the nodes above the leaves, going round."""
     return set_of(kinds, many, lambda name, states: (1 + sum(states)) % many if states else 0, takes)

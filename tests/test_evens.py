@@ -1,8 +1,9 @@
 from fractions import Fraction
 from math import gcd
 
-from helpers import (E, EF, EFS, ES, ODD, Case, balanced, chance, comb, cycle, every_tree, nodes_in, numbers_of, one_state,
-                     plain_state, plain_told, plain_worths, poly, power, random_kinds, random_numbers, set_of)
+from helpers import (E, EF, EFS, ES, FOUR_HUNDRED, ODD, Case, balanced, chance, comb, cycle, every_tree, nodes_in,
+                     numbers_of, of_parts, one_state, plain_state, plain_told, plain_worths, poly, power,
+                     random_kinds, random_numbers, set_of)
 from papers import multiplies_out
 from samewriting.errors import BadNumbers, BadTree, NotEven, OtherKinds, TooMany
 from samewriting.evens import basis, is_even, same_even, shares, ties
@@ -133,6 +134,12 @@ class Bounds(Case):
         self.too_many(400, same_even, counting(doubling(9)), counting(one_state(EF)))
         # Told ahead of a tree that parts them.
         self.too_many(400, same_even, counting(doubling(9)), counting(one_state(EF), poly((5,))))
+
+    def test_just_four_hundred_nodes(self):
+        def told_of(parts):
+            return numbers_of(of_parts(EFS, parts), 1, lambda name, states: ((),), lambda state: None)
+        self.assertEqual(nodes_in(basis(told_of(FOUR_HUNDRED))[10][0]), 400)
+        self.too_many(400, basis, told_of(FOUR_HUNDRED + (("s", 10),)))
 
     def test_basis_trees_of_many_levels(self):
         self.assertEqual(basis(counting(cycle(30)))[29], (comb(29), comb(59)))

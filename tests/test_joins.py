@@ -1,5 +1,5 @@
-from helpers import (E, EF, ES, ODD, Case, balanced, chance, comb, cycle, every_tree, exchanged, nodes_in, one_state,
-                     plain_state, random_kinds, random_set, set_of)
+from helpers import (E, EF, EFS, ES, FOUR_HUNDRED, ODD, Case, balanced, chance, comb, cycle, every_tree, exchanged,
+                     nodes_in, of_parts, one_state, plain_state, random_kinds, random_set, set_of)
 from samewriting.errors import BadKinds, BadSet, BadTree, OtherKinds, TooMany
 from samewriting.joins import alone, both, contrary, either, inside, least
 from samewriting.sets import in_order, is_in, is_set, least_trees, state_of
@@ -137,6 +137,9 @@ class Errors(Case):
         self.assertEqual(inside(doubling(8), contrary(one_state(EF))), balanced(8))
         self.too_many(400, inside, doubling(9), contrary(one_state(EF)))
         self.too_many(400, inside, doubling(60), contrary(one_state(EF)))
+        nothing = contrary(one_state(EFS))
+        self.assertEqual(nodes_in(inside(of_parts(EFS, FOUR_HUNDRED), nothing)), 400)
+        self.too_many(400, inside, of_parts(EFS, FOUR_HUNDRED + (("s", 10),)), nothing)
 
     def test_all_goals_within_seconds(self):
         choose = chance(3)

@@ -1,7 +1,7 @@
 from helpers import ODD, PRIME, Case, chance, poly, power, wrong_kinds, wrong_lengths
 from samewriting.errors import BadNumber, BadPolynomial, BadWorths
-from samewriting.polynomials import (cleared, degree_of, first_term, is_polynomial, plus, put_in, scaled, times, value_at,
-                                     variables_of)
+from samewriting.polynomials import (cleared, degree_of, first_term, is_polynomial, plus, put_in, scaled, times,
+                                     value_at, variables_of)
 
 X, Y, Z, W = (0, 0), (0, 1), (1, 0), (3, 15)
 P = poly((1, X, Y), (-1,))

@@ -1,5 +1,6 @@
-from helpers import (E, EF, EFS, ES, ODD, Case, balanced, chance, comb, cycle, every_tree, exchanged, left_comb, one_state,
-                     plain_state, random_kinds, random_set, readers_of, set_of, wrong_kinds, wrong_lengths)
+from helpers import (E, EF, EFS, ES, ODD, Case, balanced, chance, comb, cycle, every_tree, exchanged, left_comb,
+                     one_state, plain_state, random_kinds, random_set, readers_of, set_of, wrong_kinds,
+                     wrong_lengths)
 from samewriting.errors import BadReader, BadTree, NotLetBy
 from samewriting.joins import least
 from samewriting.readers import domain, is_reader, lets_by, rooms_at, written

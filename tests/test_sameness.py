@@ -1,7 +1,7 @@
 import itertools
 
-from helpers import (E, EF, EFS, ES, ODD, Case, chance, comb, cycle, every_tree, numbers_of, one_state, plain_state, plain_told,
-                     plain_worths, poly, power, random_kinds, random_numbers, with_turned_rooms)
+from helpers import (E, EF, EFS, ES, ODD, Case, chance, comb, cycle, every_tree, numbers_of, one_state, plain_state,
+                     plain_told, plain_worths, poly, power, random_kinds, random_numbers, with_turned_rooms)
 from papers import for_child, moved, multiplies_out, plus, put, rows_of
 from samewriting.dividing import divided
 from samewriting.errors import BadDegree, BadNumbers, BadSize, OtherKinds, TooMany

@@ -1,7 +1,8 @@
 import itertools
 
-from helpers import (E, EF, EFS, ES, ODD, Case, balanced, chance, comb, cycle, every_tree, exchanged, left_comb, nodes_in,
-                     one_state, plain_state, random_kinds, random_set, set_of, wrong_kinds, wrong_lengths)
+from helpers import (E, EF, EFS, ES, FOUR_HUNDRED, ODD, Case, balanced, chance, comb, cycle, every_tree, exchanged,
+                     left_comb, nodes_in, of_parts, one_state, plain_state, random_kinds, random_set, set_of,
+                     wrong_kinds, wrong_lengths)
 from samewriting.errors import BadNumber, BadSet, BadTree, TooMany
 from samewriting.sets import (in_order, is_finite, is_in, is_set, least_in, least_trees, number_in, state_of)
 
@@ -133,6 +134,21 @@ class Bounds(Case):
         self.too_many(400, in_order, trees, 1)
         self.assertEqual(least_in(trees[:4] + ((7,),)), balanced(8))
         self.assertEqual(in_order(trees[:4] + ((0, 1),), 2), (E, F))
+
+    def test_just_four_hundred_nodes(self):
+        trees = of_parts(EFS, FOUR_HUNDRED)
+        tree = least_in(trees)
+        self.assertEqual(nodes_in(tree), 400)
+        self.assertEqual(in_order(trees, 12), (tree,))
+        self.assertIn(tree, least_trees(trees[:3] + (trees[3],) + ((),)))
+        self.assertIs(is_in(trees, tree), True)
+        more = of_parts(EFS, FOUR_HUNDRED + (("s", 10),))
+        for function, passed in ((least_in, ()), (least_trees, ()), (in_order, (1,))):
+            self.too_many(400, function, more, *passed)
+        self.assertIs(is_finite(more), True)
+        # What is not asked for may be too large.
+        self.assertEqual(in_order(more[:4] + ((0, 11),), 1), (E,))
+        self.too_many(400, in_order, more[:4] + ((0, 11),), 2)
 
     def test_sets_answer_where_no_tree_can_be_told(self):
         trees = doubling(60)

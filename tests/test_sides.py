@@ -1,7 +1,7 @@
 import itertools
 
-from helpers import (EF, EFS, ES, ODD, Case, chance, cycle, every_tree, numbers_of, one_state, plain_state, random_kinds,
-                     random_numbers, set_of)
+from helpers import (EF, EFS, ES, ODD, Case, chance, cycle, every_tree, numbers_of, one_state, plain_state,
+                     random_kinds, random_numbers, set_of)
 from samewriting.errors import BadNumbers, OtherKinds
 from samewriting.sides import met
 

@@ -1,5 +1,5 @@
-from helpers import (EF, ES, ODD, PRIME, Case, at_path, chance, cycle, exchanged, numbers_of, one_state, parts_of, poly, power,
-                     random_kinds, random_numbers, with_turned_rooms, wrong_kinds, wrong_lengths)
+from helpers import (EF, ES, ODD, PRIME, Case, at_path, chance, cycle, exchanged, numbers_of, one_state, parts_of,
+                     poly, power, random_kinds, random_numbers, with_turned_rooms, wrong_kinds, wrong_lengths)
 from papers import multiplies_out
 from samewriting.errors import BadNumbers, OtherKinds, TooMany
 from samewriting.dividing import divided

@@ -50,6 +50,11 @@ def set_of(kinds, many, rule, takes=()):
     return ("set", kinds, many, rows, tuple(takes))
 
 
+# With 10 states these have 4001 goals; the second ones have 3996 with 11.
+FOUR_THREES = (("e", 0), ("f", 3), ("g", 3), ("h", 3), ("i", 3))
+THREE_THREES = (("c", 0), ("d", 0), ("e", 0), ("f", 3), ("g", 3), ("h", 3))
+
+
 def one_state(kinds):
     """The set of all trees, with one state."""
     return set_of(kinds, 1, lambda name, states: 0, (0,))

@@ -1,5 +1,6 @@
-from helpers import (E, EF, EFS, ES, FOUR_HUNDRED, ODD, Case, balanced, chance, comb, cycle, every_tree, exchanged,
-                     nodes_in, of_parts, one_state, plain_state, random_kinds, random_set, set_of)
+from helpers import (E, EF, EFS, ES, FOUR_HUNDRED, FOUR_THREES, ODD, THREE_THREES, Case, balanced, chance, comb,
+                     cycle, every_tree, exchanged, nodes_in, of_parts, one_state, plain_state, random_kinds,
+                     random_set, set_of)
 from samewriting.errors import BadKinds, BadSet, BadTree, OtherKinds, TooMany
 from samewriting.joins import alone, both, contrary, either, inside, least
 from samewriting.sets import in_order, is_in, is_set, least_trees, state_of
@@ -100,6 +101,12 @@ class Errors(Case):
         self.assertEqual(both(three, five)[2], 15)
         for function in (both, either, inside):
             self.too_many(4000, function, four, five)
+        # As near to 4000 as can be: 11 pairs with 3996 goals, 10 with 4001.
+        eleven = set_of(THREE_THREES, 11, lambda name, states: (1 + sum(states)) % 11 if states else 0, (0,))
+        for function in (both, either, inside):
+            self.within(20, function, eleven, one_state(THREE_THREES))
+            self.too_many(4000, function, cycle(2, (0,), FOUR_THREES), cycle(5, (0,), FOUR_THREES))
+        self.assertEqual(both(eleven, one_state(THREE_THREES))[2], 11)
         # 9 times 8 is more than 60: this counts first.
         nine = set_of(kinds, 9, lambda name, states: (1 + sum(states)) % 9, (0,))
         eight = set_of(kinds, 8, lambda name, states: (1 + sum(states)) % 8, (0,))
@@ -113,7 +120,7 @@ class Errors(Case):
         def tower(levels):
             tree = E
             for _ in range(levels):
-                tree = ("f", tree, tree, E)
+                tree = ("f", tree, E, E)
             return tree
 
         twice = (("e", 0), ("f", 2), ("g", 2))
@@ -129,6 +136,10 @@ class Errors(Case):
         self.too_many(4000, alone, twice, low(44))
         self.too_many(60, alone, twice, low(59))
         self.assertEqual(alone(threes, tower(4))[2], 6)
+        # As near to 4000 as can be: 3996 and 4001 goals.
+        self.assertEqual(alone(THREE_THREES, tower(9))[2], 11)
+        self.too_many(4000, alone, FOUR_THREES, tower(8))
+        self.assertEqual(alone(FOUR_THREES, tower(7))[2], 9)
 
     def test_inside_tells_no_tree_too_large(self):
         def doubling(many):

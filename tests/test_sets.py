@@ -1,8 +1,8 @@
 import itertools
 
-from helpers import (E, EF, EFS, ES, FOUR_HUNDRED, ODD, Case, balanced, chance, comb, cycle, every_tree, exchanged,
-                     left_comb, nodes_in, of_parts, one_state, plain_state, random_kinds, random_set, set_of,
-                     wrong_kinds, wrong_lengths)
+from helpers import (E, EF, EFS, ES, FOUR_HUNDRED, FOUR_THREES, ODD, THREE_THREES, Case, balanced, chance, comb,
+                     cycle, every_tree, exchanged, left_comb, nodes_in, of_parts, one_state, plain_state,
+                     random_kinds, random_set, set_of, wrong_kinds, wrong_lengths)
 from samewriting.errors import BadNumber, BadSet, BadTree, TooMany
 from samewriting.sets import (in_order, is_finite, is_in, is_set, least_in, least_trees, number_in, state_of)
 
@@ -36,6 +36,9 @@ class IsSet(Case):
         # 15 ** 3 + 2 * 15 ** 2 + 15 + 1 is 3841, and 16 ** 3 is 4096.
         self.assertIs(is_set(made((("a", 0), ("b", 3), ("c", 2), ("d", 2), ("e", 1)), 15)), True)
         self.assertIs(is_set(made((("a", 0), ("b", 3)), 16)), False)
+        # As near to 4000 as can be: 3 * 11 ** 3 + 3 and 4 * 10 ** 3 + 1.
+        self.assertIs(is_set(made(THREE_THREES, 11)), True)
+        self.assertIs(is_set(made(FOUR_THREES, 10)), False)
         # 2 * 44 ** 2 + 1 is 3873, and with 45 it is 4051; with three further kinds 44 have 4005, 43 have 3828.
         self.assertIs(is_set(made((("a", 0), ("b", 2), ("c", 2)), 44)), True)
         self.assertIs(is_set(made((("a", 0), ("b", 2), ("c", 2)), 45)), False)

@@ -49,6 +49,10 @@ class Met(Case):
             return set_of(EFS, many, lambda name, states: (1 + sum(states)) % many if states else 0)
         self.assertEqual(len(self.within(20, met, over(round_of(4)), over(round_of(35)))), 140)
         self.too_many(20000, met, over(round_of(3)), over(round_of(47)))
+        # As near to 20000 as can be: 100 pairs with 20001 goals.
+        twos = (("e", 0), ("f", 2), ("g", 2))
+        self.too_many(20000, met, over(cycle(4, (), twos)), over(cycle(25, (), twos)))
+        self.assertEqual(len(met(over(cycle(9, (), twos)), over(cycle(11, (), twos)))), 99)
         # More than 400 pairs count first.
         self.too_many(400, met, over(round_of(20)), over(round_of(21)))
         threes = (("e", 0), ("f", 3), ("s", 1))

@@ -148,6 +148,8 @@ class Errors(Case):
         self.assertEqual(inside(doubling(8), contrary(one_state(EF))), balanced(8))
         self.too_many(400, inside, doubling(9), contrary(one_state(EF)))
         self.too_many(400, inside, doubling(60), contrary(one_state(EF)))
+        # What is not told may be too large.
+        self.assertEqual(inside(doubling(9)[:4] + ((0, 8),), contrary(one_state(EF))), E)
         nothing = contrary(one_state(EFS))
         self.assertEqual(nodes_in(inside(of_parts(EFS, FOUR_HUNDRED), nothing)), 400)
         self.too_many(400, inside, of_parts(EFS, FOUR_HUNDRED + (("s", 10),)), nothing)

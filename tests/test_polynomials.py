@@ -30,6 +30,9 @@ class IsPolynomial(Case):
         self.assertIs(is_polynomial(power(X, 41)), False)
         self.assertIs(is_polynomial(((((X, 20), (Y, 20)), 1),)), True)
         self.assertIs(is_polynomial(((((X, 20), (Y, 21)), 1),)), False)
+        forty = tuple((child, room) for child in range(4) for room in range(10))
+        self.assertIs(is_polynomial(poly((1,) + forty)), True)
+        self.assertIs(is_polynomial(poly((1,) + forty + ((0, 15),))), False)
         for variable in ((4, 0), (0, 16), (-1, 0), (0, -1), (True, 0), (0, False), (0,), (0, 0, 0), [0, 0], 0, None, ("0", 0)):
             self.assertIs(is_polynomial(((((variable, 1),), 1),)), False)
 
@@ -171,6 +174,17 @@ class PuttingIn(Case):
         self.too_many(400, put_in, poly((PRIME,) + (W,) * 27), ((W, three),))
         self.assertEqual(len(put_in(poly((PRIME,) + (W,) * 26), ((W, three),))), 378)
         self.assertEqual(put_in(poly((PRIME, X), (1, Y)), ((X, power(Z, 2)),)), poly((PRIME, Z, Z), (1, Y)))
+        # The degree counts, though remainders show the many terms alone.
+        self.too_many(40, put_in, poly((PRIME, X, X, X), (1,) + (W,) * 27), ((X, power(Y, 14)), (W, three)))
+
+    def test_just_four_hundred_terms_of_many(self):
+        three, further = poly((1, X), (1, Y), (1, Z)), (3, 14)
+        for many in (22, 23):
+            long = poly((1,) + (W,) * 26, *[(1, further) + (X,) * number for number in range(many)])
+            if many == 22:
+                self.assertEqual(len(put_in(long, ((W, three),))), 400)
+            else:
+                self.too_many(400, put_in, long, ((W, three),))
 
     def test_far_too_much_is_refused_within_seconds(self):
         every = poly(*[(1, (child, room)) for child in range(4) for room in range(16)])

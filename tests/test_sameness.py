@@ -5,7 +5,7 @@ from helpers import (E, EF, EFS, ES, ODD, Case, chance, comb, cycle, every_tree,
 from papers import for_child, moved, multiplies_out, plus, put, rows_of
 from samewriting.dividing import divided
 from samewriting.errors import BadDegree, BadNumbers, BadSize, OtherKinds, TooMany
-from samewriting.polynomials import is_polynomial, value_at
+from samewriting.polynomials import degree_of, is_polynomial, value_at
 from samewriting.sameness import equations_of, sameness
 from samewriting.sides import met
 from samewriting.spaces import across
@@ -153,10 +153,47 @@ class Errors(Case):
                                      (4, 11, "same"), (4, 12, "open"), (1, 1, "same")):
             reader = reader_of(power(X, many))
             self.assertEqual(sameness(reader, reader, degree, 2)[0], wanted, (degree, many))
-        # The factor for the sum of all powers to n has n (n + 1) / 2 terms.
-        for many, wanted in ((27, "same"), (28, "open")):
-            reader = reader_of(poly(*[(1,) + (X,) * number for number in range(many + 1)]))
+        # The factor for a sum of powers has as many terms as all of them are together.
+        for last, wanted in ((15, "same"), (16, "open")):
+            chosen = list(range(30, 41)) + [last]
+            self.assertEqual(sum(chosen), 400 if last == 15 else 401)
+            reader = reader_of(poly(*[(1,) + (X,) * number for number in chosen]))
             self.assertEqual(sameness(reader, reader, 1, 2)[0], wanted)
+
+    def test_factors_of_just_forty(self):
+        # One has x, r, w, other y, z, s: always x is y z, r is s s, w is s. What is put in for x - y z has the
+        # first term y z s ** 40, or s ** 41.
+        kinds = (("a", 0), ("b", 0), ("c", 0), ("d", 0), ("e", 0), ("s", 1))
+        r, w = (0, 1), (0, 2)
+        leaves = {"a": (2, 3, 5), "b": (3, 7, 2), "c": (11, 2, 3), "d": (5, 13, 7), "e": (1, 17, 11)}
+        for odd, wanted in ((0, "same"), (1, "open")):
+            def first(name, states):
+                if states:
+                    return poly((1, X) + (w,) * odd + (r,) * 20), poly((4, r)), poly((2, w))
+                y, z, s = leaves[name]
+                return poly((y * z,)), poly((s * s,)), poly((s,))
+
+            def second(name, states):
+                if states:
+                    return poly((1, X) + (Z,) * 20), poly((1, Y) + (Z,) * (20 + odd)), poly((2, Z))
+                return tuple(poly((number,)) for number in leaves[name])
+            one = numbers_of(one_state(kinds), 3, first, lambda state: poly((1, X)))
+            other = numbers_of(one_state(kinds), 3, second, lambda state: poly((1, X, Y)))
+            told = sameness(one, other, 2, 9)
+            self.assertEqual(told[0], wanted)
+            if wanted == "same":
+                self.assertIs(is_paper(one, other, told[1]), True)
+                self.assertEqual(max(degree_of(part[2]) for one_sum in told[1][2][5][0] for part in one_sum[1]), 40)
+
+    def test_a_rest_of_one_term(self):
+        # The product of both rooms is 0 everywhere: but no equation of the degree 1 says so.
+        kinds = (("a", 0), ("b", 0), ("c", 0), ("s", 1))
+        leaves = {"a": ((), ()), "b": (poly((1,)), ()), "c": ((), poly((1,)))}
+        one = numbers_of(one_state(kinds), 2, lambda name, states: leaves.get(name, (poly((1, X)), poly((1, Y)))),
+                         lambda state: poly((1, X, Y)))
+        other = numbers_of(one_state(kinds), 1, lambda name, states: ((),), lambda state: ())
+        self.assertEqual(sameness(one, other, 1, 3), ("open",))
+        self.assertEqual(sameness(one, other, 2, 3)[0], "same")
 
     def test_long_readers_within_seconds(self):
         choose = chance(3)

@@ -167,6 +167,7 @@ class Bounds(Case):
         trees = cycle(60, (59,))
         self.assertEqual(least_trees(trees)[59], comb(59))
         self.assertEqual(in_order(trees, 1), (comb(59),))
+        self.assertEqual(least_in(trees), comb(59))
         self.too_many(60, in_order, trees, 2)
         self.too_many(60, in_order, trees, 6)
         # The seventh tree has more than 400 nodes, the second is too deep: 400 comes first.

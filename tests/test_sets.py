@@ -45,9 +45,10 @@ class IsSet(Case):
         twos = (("a", 0), ("b", 2), ("c", 2), ("d", 1), ("e", 1), ("f", 1))
         self.assertIs(is_set(made(twos, 43)), True)
         self.assertIs(is_set(made(twos, 44)), False)
-        # 5 * 28 ** 2 + 1 is 3921; 4 * 31 ** 2 + 5 * 31 + 1 would be 4000: four kinds and 31 states have 3876.
-        self.assertIs(is_set(made((("a", 0), ("b", 2), ("c", 2), ("d", 2), ("e", 2), ("f", 1)), 31)), True)
-        self.assertIs(is_set(made((("a", 0), ("b", 2), ("c", 2), ("d", 2), ("e", 2), ("f", 2)), 29)), False)
+        # 5 * 28 ** 2 + 1 is 3921, and with 29 it is 4206.
+        fives = (("a", 0), ("b", 2), ("c", 2), ("d", 2), ("e", 2), ("f", 2))
+        self.assertIs(is_set(made(fives, 28)), True)
+        self.assertIs(is_set(made(fives, 29)), False)
 
     def test_wrong_ones(self):
         wrong = [value for value in ODD] + [

@@ -107,6 +107,9 @@ class Errors(Case):
         self.within(20, sameness, flat(one_state(kinds)), flat(one_state(kinds)), 1, 6)
         self.too_many(3000, sameness, flat(one_state(kinds)), flat(one_state(kinds)), 1, 7)
         self.too_many(400, sameness, flat(cycle(17, (), kinds)), flat(cycle(25, (), kinds)), 1, 7)
+        # As near to 3000 as can be: 3, 54 and 2916 trees of 1, 4 and 7 nodes.
+        threes = (("a", 0), ("b", 0), ("c", 0), ("d", 3), ("e", 3))
+        self.assertEqual(self.within(20, sameness, flat(one_state(threes)), flat(one_state(threes)), 4, 9)[0], "same")
 
     def test_powers(self):
         for rooms, degree, fits in (((1, 1), 4, True), ((1, 2), 4, True), ((2, 2), 4, False), ((2, 3), 3, True), ((3, 3), 3, False),

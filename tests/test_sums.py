@@ -48,12 +48,22 @@ class IsPaper(Case):
             exchanged(PAPER, (2, 0, 0, 0), (0, ())), exchanged(PAPER, (2, 0, 0, 0), (-1, ())),
             exchanged(PAPER, (2, 1, 0, 0), (1, ((0, 1, poly((2,))),))), exchanged(PAPER, (2, 1, 0, 0), (1, ((1, 0, poly((2,))),))),
             exchanged(PAPER, (2, 1, 0, 0), (1, ((0, 0, poly((1,))), (0, 0, poly((1,)))))),
+            exchanged(PAPER, (2, 1, 0, 0), (1, ((0, 0, poly((-1,))), (0, 0, poly((3,)))))),
             exchanged(PAPER, (2, 1, 0, 0), (1, ((0, 0, ()), (0, 0, poly((2,)))))), exchanged(PAPER, (2, 1, 0, 0), (2, PAPER[2][1][0][0][1])),
             exchanged(PAPER, (2, 0, 0, 0), (1, ((0, 0, poly((2,))),))), exchanged(PAPER, (2, 0, 0, 0), (1, ((0, 0, ()),))),
             exchanged(PAPER, (3,), ()), exchanged(PAPER, (3,), (None,)), exchanged(PAPER, (3, 0), (1, ())),
             exchanged(PAPER, (3, 0, 1, 0, 0), 1), exchanged(PAPER, (3,), PAPER[3] * 2)]
         self.takes_none_of(lambda thing: is_paper(ONE, OTHER, thing), wrong)
         self.takes_none_of(lambda thing: is_paper(ONE, OTHER, thing), wrong_kinds(PAPER))
+
+    def test_equations_in_rooms_of_nobody(self):
+        # Both equations multiply out with any variable beside the first one.
+        for variable, right in ((Z, True), ((0, 3), False), ((1, 0), False), ((0, 15), False)):
+            more = poly((1, X, variable), (-1, Z, variable))
+            often = 4 if variable == Z else 2
+            sums = ((1, ((0, 0, poly((2,))),)), (1, ((0, 1, poly((often,))),)))
+            paper = ("paper", ((PAPER[1][0][0], more),), ((((1, ()), (1, ())),), (sums,)), PAPER[3])
+            self.assertIs(is_paper(ONE, OTHER, paper), right, variable)
 
     def test_one_part_left_out_doubled_or_exchanged(self):
         for path, changed in wrong_lengths(PAPER):

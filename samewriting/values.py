@@ -6,11 +6,6 @@ def is_whole(thing):
     return isinstance(thing, int) and not isinstance(thing, bool)
 
 
-def is_number(thing):
-    """Whether it is a whole number from 0 on."""
-    return is_whole(thing) and thing >= 0
-
-
 def is_between(thing, low, high):
     """Whether it is a whole number from low to high."""
     return is_whole(thing) and low <= thing <= high

@@ -1,12 +1,10 @@
 """Dividing polynomials by several others, and bases."""
 
-from math import gcd
-
 from samewriting.errors import BadPolynomial, BadPolynomials, TooMany
-from samewriting.packed import degree_packed, packed, packed_powers, powers_packed, trimmed, unpacked
+from samewriting.packed import degree_packed, packed, packed_powers, powers_packed, unpacked
 from samewriting.polynomials import check_polynomial, cleared_of, is_polynomial
 from samewriting.putting import MOST_DEGREE, MOST_TERMS, check_bounds
-from samewriting.reducing import divided_within, divisor_of, leaves_rest
+from samewriting.reducing import divided_within, divisor_of, leaves_rest, overlap_at
 
 
 def _are_divisors(thing):
@@ -50,14 +48,7 @@ def _least_both_divide(one, other):
 
 def _overlap_of(one, other):
     """The overlap of two divisors, not cleared, as a packed polynomial."""
-    met = _least_both_divide(one[0], other[0])
-    common = gcd(one[1], other[1])
-    told = {}
-    for divisor, often in ((one, other[1] // common), (other, -(one[1] // common))):
-        for mono, number in divisor[2]:
-            both = mono + met - divisor[0]
-            told[both] = told.get(both, 0) + often * number
-    return trimmed(told)
+    return overlap_at(one, other, _least_both_divide(one[0], other[0]))
 
 
 def is_basis(thing):

@@ -94,6 +94,11 @@ def same_even(one, other):
     check_sides(one, other)
     _check_even(one)
     _check_even(other)
+    return same_even_of(one, other)
+
+
+def same_even_of(one, other):
+    """As same_even, of two even number readers of the same kinds."""
     sides = sides_of(one, other)
     valuers = sides.both_valuers()
     spans = Spans(sides.kinds, len(sides.pairs), sides.goals, valuers, sides.rooms)

@@ -11,7 +11,7 @@ from samewriting.walks import pairs_met, place_of, tuples_below
 
 MOST_DIGITS = 2000
 
-_GREATEST = 10 ** 40
+GREATEST = 10 ** 40
 
 
 def is_numbers(thing):
@@ -24,7 +24,7 @@ def _is_over(thing, rank, rooms):
     if not is_polynomial(thing):
         return False
     for powers, number in thing:
-        if not is_between(number, -_GREATEST, _GREATEST):
+        if not is_between(number, -GREATEST, GREATEST):
             return False
         if not all([child < rank and room < rooms for (child, room), _ in powers]):
             return False
@@ -88,9 +88,14 @@ def kept(numbers, trees):
     """The number reader that lets by the trees in the set alone, and tells the same of them."""
     check_numbers(numbers)
     check_set(trees)
-    own = numbers[1]
-    if own[1] != trees[1]:
+    if numbers[1][1] != trees[1]:
         raise OtherKinds("not the same kinds")
+    return kept_of(numbers, trees)
+
+
+def kept_of(numbers, trees):
+    """As kept, of what surely is a number reader and a set of its kinds."""
+    own = numbers[1]
     pairs, goals = pairs_met(own, trees, 60, 4000)
     takes = tuple([number for number, pair in enumerate(pairs) if pair[1] in trees[4]])
     rows = []

@@ -3,7 +3,7 @@
 from heapq import heapify, heappop, heappush
 from math import gcd, lcm
 
-from samewriting.packed import degree_packed, divides
+from samewriting.packed import degree_packed, divides, trimmed
 from samewriting.putting import PRIME
 
 ENDLESS = 1 << 64
@@ -17,6 +17,50 @@ def divisor_of(terms):
     return lead, terms[lead], [(mono, terms[mono]) for mono in terms if mono != lead]
 
 
+def terms_of(divisor):
+    """The packed polynomial of a divisor."""
+    terms = dict(divisor[2])
+    terms[divisor[0]] = divisor[1]
+    return terms
+
+
+def overlap_at(one, other, met):
+    """The overlap of two divisors, not cleared, met being the least powers that both first terms divide."""
+    common = gcd(one[1], other[1])
+    told = {}
+    for divisor, often in ((one, other[1] // common), (other, -(one[1] // common))):
+        for mono, number in divisor[2]:
+            both = mono + met - divisor[0]
+            told[both] = told.get(both, 0) + often * number
+    return trimmed(told)
+
+
+class Finder:
+    """Finds the first of some divisors, further ones may come, for powers; what was found is kept.
+
+    Whether packed powers divide others is told by fits(mono, other).
+    """
+
+    def __init__(self, divisors, fits):
+        self.divisors = divisors
+        self.fits = fits
+        self.known = {}
+
+    def first_dividing(self, mono):
+        """The number of the first divisor whose first term divides these powers, None if none does."""
+        spot, tried = self.known.get(mono, (None, 0))
+        if spot is None and tried < len(self.divisors):
+            spot = self._first_from(tried, mono)
+            self.known[mono] = (spot, len(self.divisors))
+        return spot
+
+    def _first_from(self, begin, mono):
+        for spot in range(begin, len(self.divisors)):
+            if self.fits(self.divisors[spot][0], mono):
+                return spot
+        return None
+
+
 class Division:
     """A division under way. What is left is kept as whole numbers: `scale` times as much as it is.
 
@@ -24,15 +68,15 @@ class Division:
     degree: these only grow. The limits are (terms of the rest, terms of a part, degree of a part).
     """
 
-    def __init__(self, terms, divisors, limits):
+    def __init__(self, terms, finder, limits):
         self.left = {mono: terms[mono] for mono in terms}
         self.queue = [-mono for mono in terms]
         heapify(self.queue)
-        self.divisors = divisors
+        self.finder = finder
         self.limits = limits
         self.scale = 1
         self.turns = 0
-        self.parts = [[] for _ in divisors]
+        self.parts = [[] for _ in finder.divisors]
         self.rest = []
 
     def run(self, patience):
@@ -48,24 +92,18 @@ class Division:
         return True
 
     def _turn(self, mono, number):
-        spot = self._first_dividing(mono)
+        spot = self.finder.first_dividing(mono)
         if spot is None:
             self.rest.append((mono, number, self.scale))
             return len(self.rest) <= self.limits[0]
         self.turns += 1
-        lead, head, tail = self.divisors[spot]
+        lead, head, tail = self.finder.divisors[spot]
         step = mono - lead
         often = self.often(number, head)
         self.parts[spot].append((step, often, self.scale))
         for key, worth in tail:
             self.take_away(key + step, often * worth)
         return len(self.parts[spot]) <= self.limits[1] and degree_packed(step) <= self.limits[2]
-
-    def _first_dividing(self, mono):
-        for spot, divisor in enumerate(self.divisors):
-            if divisor[0] <= mono and divides(divisor[0], mono):
-                return spot
-        return None
 
     def often(self, number, head):
         """How often a first term is taken away; what is left is scaled so that this is whole."""
@@ -97,41 +135,44 @@ class Division:
 class RemainderDivision(Division):
     """A division of which only remainders by a prime are told: where it fails, the division fails."""
 
+    def __init__(self, terms, finder, limits, prime):
+        super().__init__(trimmed(terms, prime), finder, limits)
+        self.prime = prime
+
     def often(self, number, head):
         """The remainder of how often a first term is taken away."""
-        return number * _inverse(head % PRIME) % PRIME
+        return number * inverse_of(head, self.prime) % self.prime
 
     def take_away(self, mono, number):
         """Take a term away from what is left, remainders only."""
         if mono in self.left:
-            self.left[mono] = (self.left[mono] - number) % PRIME
+            self.left[mono] = (self.left[mono] - number) % self.prime
         else:
-            self.left[mono] = -number % PRIME
+            self.left[mono] = -number % self.prime
             heappush(self.queue, -mono)
 
 
-def _inverse(number):
+def inverse_of(number, prime):
     """The number that, times this one, leaves the remainder 1 by the prime."""
-    low, high = number, PRIME
+    low, high = number % prime, prime
     own, other = 1, 0
     while low > 1:
         often = high // low
         low, high = high - often * low, low
         own, other = other - often * own, own
-    return own % PRIME
+    return own % prime
 
 
 def may_divide(terms, divisors, limits):
     """Whether remainders do not show that a division fails."""
     if not all([divisor[1] % PRIME for divisor in divisors]):
         return True
-    remainders = {mono: terms[mono] % PRIME for mono in terms}
-    return RemainderDivision(remainders, divisors, limits).run(ENDLESS)
+    return RemainderDivision(terms, Finder(divisors, divides), limits, PRIME).run(ENDLESS)
 
 
 def divided_within(terms, divisors, limits):
     """As whole of a division; None if it fails."""
-    division = Division(terms, divisors, limits)
+    division = Division(terms, Finder(divisors, divides), limits)
     done = division.run(_PATIENCE)
     # Long divisions have long numbers: whether they fail is seen sooner by remainders.
     if done is None and may_divide(terms, divisors, limits):

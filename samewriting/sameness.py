@@ -93,13 +93,16 @@ def _remainders(row):
     return [number % PRIME for number in row]
 
 
-def _checked(one, other, degree, size):
-    """The sides and the sample of two readers; the errors of equations_of."""
-    check_sides(one, other)
+def check_reach(degree, size):
+    """Raise BadDegree, then BadSize, for what is not let."""
     if not is_between(degree, 1, 4):
         raise BadDegree("not from 1 to 4")
     if not is_between(size, 1, 9):
         raise BadSize("not from 1 to 9")
+
+
+def _sample_of(one, other, degree, size):
+    """The sides and the sample of two readers that are checked; the last errors of equations_of."""
     sides = sides_of(one, other)
     if sum(counts_to(sides.kinds, size)) > 3000:
         raise TooMany(3000)
@@ -110,7 +113,9 @@ def _checked(one, other, degree, size):
 
 def equations_of(one, other, degree, size):
     """For each pair met the polynomials, as stairs, that are 0 at all its trees of at most this size."""
-    sides, sample = _checked(one, other, degree, size)
+    check_sides(one, other)
+    check_reach(degree, size)
+    sides, sample = _sample_of(one, other, degree, size)
     return _equations(sides, sample, degree)
 
 
@@ -122,7 +127,14 @@ def _equations(sides, sample, degree):
 
 def sameness(one, other, degree, size):
     """("parted", tree), ("same", paper) or ("open",)."""
-    sides, sample = _checked(one, other, degree, size)
+    check_sides(one, other)
+    check_reach(degree, size)
+    return sameness_of(one, other, degree, size)
+
+
+def sameness_of(one, other, degree, size):
+    """As sameness, of two readers that are checked."""
+    sides, sample = _sample_of(one, other, degree, size)
     tree = sample.parting()
     if tree is not None:
         return ("parted", tree)

@@ -25,7 +25,12 @@ INTERFACE = (
     ("evens", "is_even(numbers) basis(numbers) shares(numbers,tree) ties(numbers) same_even(one,other)"),
     ("readers", "is_reader(thing) rooms_at(reader,tree) lets_by(reader,tree) written(reader,tree) domain(reader)"),
     ("vanishing", "powers_to(variables,degree) equations_at(variables,points,degree)"),
-    ("sameness", "equations_of(one,other,degree,size) sameness(one,other,degree,size)"))
+    ("sameness", "equations_of(one,other,degree,size) sameness(one,other,degree,size)"),
+    ("codes", "code(text) decoded(number) coded(reader) same_texts(one,other,trees,degree,size) same_thin(one,other,trees)"),
+    ("templates", "is_template(trees,thing) items_in(trees,template)"), ("plainly", "plain(trees,template)"),
+    ("writers", "is_writer(thing) called(writer,state,tree)"), ("compiling", "writer_of(trees,template) as_template(writer)"),
+    ("turning", "as_writer(reader) as_reader(writer)"), ("alike", "same_templates(trees,one,other,degree,size)"),
+    ("bases", "basis_of(some) shown(some) is_shown(some,thing)"))
 
 FOLDER = os.path.dirname(samewriting.__file__)
 

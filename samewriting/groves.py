@@ -62,17 +62,17 @@ class Grove:
 
     def _settle(self, nodes):
         offers = self.waiting.pop(nodes)
-        in_order = sorted([(self._key(kind, kids), kids, state) for kind, kids, state in offers])
+        in_order = sorted([(self.key_of(kind, kids), kids, state) for kind, kids, state in offers])
         fresh = []
         for key, kids, state in in_order:
             if self.wants(state) and self.accepts(state, key[0], kids):
                 fresh.append(self.keep(key[0], kids, state, nodes))
-        self._line_up(fresh)
+        self.line_up(fresh)
         for tree in fresh:
             self._spread(tree)
 
-    def _key(self, kind, kids):
-        # Trees of the same size stand in order as their kinds, then as the places of their children.
+    def key_of(self, kind, kids):
+        """What trees of the same size stand in order by: their kinds, then the places of their children."""
         return [kind] + [self.places[kid] for kid in kids]
 
     def keep(self, kind, kids, state, nodes):
@@ -88,17 +88,18 @@ class Grove:
         self.places.append(0)
         return tree
 
-    def _line_up(self, fresh):
+    def line_up(self, fresh):
+        """Put trees into the line of all trees, as tuples."""
         if not fresh:
             return
         for tree in fresh:
-            key = self._key(self.heads[tree], self.kids[tree])
+            key = self.key_of(self.heads[tree], self.kids[tree])
             low = 0
             high = len(self.line)
             while low < high:
                 middle = (low + high) // 2
                 standing = self.line[middle]
-                if self._key(self.heads[standing], self.kids[standing]) < key:
+                if self.key_of(self.heads[standing], self.kids[standing]) < key:
                     low = middle + 1
                 else:
                     high = middle

@@ -2,6 +2,7 @@
 
 from samewriting.errors import OtherKinds, TooMany
 from samewriting.groves import Grove
+from samewriting.lots import lots_of
 from samewriting.sets import check_set, met_states
 from samewriting.trees import check_kinds, check_tree, listed
 from samewriting.walks import any_number, goals_in, pairs_met, place_of, rows_of, tuples_below, walk
@@ -97,7 +98,7 @@ def least_of(trees):
     """As least, of what surely is a set but for its number of states."""
     kinds = trees[1]
     met = met_states(trees)
-    lot = _lots_of(trees, met)
+    lot = lots_of(trees, met, {state: state in trees[4] for state in met}, None)
     ahead = {}
     for state in met:
         ahead.setdefault(lot[state], state)
@@ -109,33 +110,3 @@ def least_of(trees):
     keys = walk(kinds, step, any_number)
     takes = [number for number, own in enumerate(keys) if ahead[own] in trees[4]]
     return ("set", kinds, len(keys), rows_of(kinds, keys, step), tuple(takes))
-
-
-def _lots_of(trees, met):
-    """For each state met the number of its lot: states of one lot take the same in all surroundings."""
-    lot = {state: int(state in trees[4]) for state in met}
-    many = len(set(list(lot.values())))
-    while True:
-        signs = _signs_of(trees, met, lot)
-        numbers = {}
-        for state in met:
-            numbers.setdefault(tuple(signs[state]), len(numbers))
-        lot = {state: numbers[tuple(signs[state])] for state in met}
-        if len(numbers) == many:
-            return lot
-        many = len(numbers)
-
-
-def _signs_of(trees, met, lot):
-    """For each state met its lot and those of all goals that it leads to, in one sequence for all states."""
-    signs = {state: [lot[state]] for state in met}
-    for pair, row in zip(trees[1], trees[3]):
-        if pair[1] > 0:
-            beside = tuples_below(len(met), pair[1] - 1)
-            for spot in range(pair[1]):
-                for places in beside:
-                    states = [met[place] for place in places]
-                    for state in met:
-                        full = states[:spot] + [state] + states[spot:]
-                        signs[state].append(lot[row[place_of(trees[2], full)]])
-    return signs

@@ -10,7 +10,8 @@ from samewriting.values import is_between, is_rising, is_row, is_whole
 MOST_POWERS = 60
 
 
-def _check_variables(variables):
+def check_variables(variables):
+    """Raise BadVariables unless this is an ascending tuple of 1 to 8 variables."""
     if not isinstance(variables, tuple) or not 1 <= len(variables) <= 8:
         raise BadVariables("not from 1 to 8 variables")
     if not all([is_variable(variable) for variable in variables]) or not is_rising(variables):
@@ -30,7 +31,7 @@ def check_powers(many, degree):
 
 def powers_to(variables, degree):
     """All powers of at most this degree in the variables, the greatest first."""
-    _check_variables(variables)
+    check_variables(variables)
     _check_degree(degree)
     check_powers(len(variables), degree)
     return tuple(powers_up_to(variables, degree))
@@ -38,7 +39,7 @@ def powers_to(variables, degree):
 
 def equations_at(variables, points, degree):
     """The polynomials, as stairs, of all those of at most this degree that are 0 at all points."""
-    _check_variables(variables)
+    check_variables(variables)
     _check_points(variables, points)
     _check_degree(degree)
     check_powers(len(variables), degree)

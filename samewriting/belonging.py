@@ -1,0 +1,163 @@
+"""Whether polynomials, or powers of them, are of an ideal; and what stays when all is divided by it."""
+
+from samewriting.basemaking import BASIS_PRIME, MOST_IN_BASIS, NO_LIMITS, remainders_made
+from samewriting.bases import basis_told, check_given, proof_told, ring_of
+from samewriting.dividing import is_basis
+from samewriting.errors import BadPolynomials, BadVariables, TooMany
+from samewriting.judging import is_factored
+from samewriting.packed import multiplied, packed, unpacked
+from samewriting.polynomials import check_polynomial
+from samewriting.proofs import combined_proof
+from samewriting.putting import MOST_DEGREE, put_within
+from samewriting.reducing import ENDLESS, Division, Finder, RemainderDivision, divisor_of, leaves_rest
+from samewriting.rings import Ring
+from samewriting.values import is_row, is_word
+from samewriting.vanishing import MOST_POWERS, check_variables
+from samewriting.wholemaking import whole_made
+
+_EXTRA = (3, 15)
+
+
+def belonging(some, polynomial):
+    """("in", k, factors) for k times the polynomial, or ("out", basis) by which it leaves a rest."""
+    check_given(some)
+    check_polynomial(polynomial)
+    ring, given = _ring_and_given(some, polynomial)
+    basis = basis_told(ring, given)
+    if _rest_by(ring, basis, polynomial):
+        return ("out", basis)
+    return ("in",) + _factors_of(ring, given, ring.packed(polynomial))
+
+
+def _ring_and_given(some, polynomial):
+    """The ring of all their variables, and some packed."""
+    ring = ring_of(some + (polynomial,))
+    return ring, [ring.packed(other) for other in some]
+
+
+def _finder_of(ring, basis):
+    return Finder([divisor_of(terms) for terms in basis], ring.divides)
+
+
+def _rest_by(ring, basis, polynomial):
+    """What a division by a basis leaves."""
+    division = Division(ring.packed(polynomial), _finder_of(ring, [ring.packed(other) for other in basis]), NO_LIMITS)
+    division.run(ENDLESS)
+    return division.whole()[2]
+
+
+def _factors_of(ring, given, terms):
+    """The pair (k, factors) for a packed polynomial of the ideal."""
+    proven = whole_made(ring, given, True)
+    division = Division(terms, _finder_of(ring, [own for own, _ in proven]), NO_LIMITS)
+    division.run(ENDLESS)
+    many, parts, _ = division.whole()
+    proofs = {number: proof for number, (_, proof) in enumerate(proven)}
+    used = [(part, number) for number, part in enumerate(parts) if part]
+    return proof_told(ring, combined_proof(used, many, proofs), len(given))
+
+
+def is_belonging(some, polynomial, thing):
+    """Whether any value tells that a polynomial is of the ideal, or that it is not."""
+    check_given(some)
+    check_polynomial(polynomial)
+    if is_row(thing, 3) and is_word(thing[0], "in"):
+        return is_factored(some, polynomial, thing[1], thing[2])
+    if not is_row(thing, 2) or not is_word(thing[0], "out") or not is_basis(thing[1]):
+        return False
+    divisors = [divisor_of(packed(other)) for other in thing[1]]
+    if not leaves_rest(packed(polynomial), divisors):
+        return False
+    return not any([leaves_rest(packed(other), divisors) for other in some])
+
+
+def power_in(some, polynomial):
+    """("power", n, k, factors) for the least power of the ideal, or ("never", basis)."""
+    check_given(some)
+    check_polynomial(polynomial)
+    ring, given = _ring_and_given(some, polynomial)
+    if _EXTRA in ring.variables:
+        raise BadVariables("(3, 15) is wanted for something else")
+    basis = basis_told(ring, given)
+    never = _never(some, polynomial)
+    if never is not None:
+        return ("never", never)
+    for many in _likely_powers(ring, basis, polynomial):
+        power = _power_of(polynomial, many)
+        if not _rest_by(ring, basis, power):
+            return ("power", many) + _factors_of(ring, given, ring.packed(power))
+    raise TooMany(MOST_DEGREE)
+
+
+def _never(some, polynomial):
+    """A basis with 1 less (3, 15) times the polynomial that has not 1 in it, None if there is none."""
+    ring = Ring(ring_of(some + (polynomial,)).variables + [_EXTRA])
+    extra = ring.units[_EXTRA]
+    # No power of the polynomial is in it exactly if the polynomial may be, somewhere, one over (3, 15).
+    inverse = {mono + extra: -number for mono, number in ring.packed(polynomial).items()}
+    inverse[0] = 1
+    basis = basis_told(ring, [ring.packed(other) for other in some] + [inverse])
+    return None if basis == ((((), 1),),) else basis
+
+
+def _likely_powers(ring, basis, polynomial):
+    """The numbers from 1 on, as far as degrees let, whose powers leave the remainder 0; all right ones are among them."""
+    base = ring.packed(polynomial)
+    degree = ring.highest_degree(base)
+    finder = _finder_of(ring, [ring.packed(other) for other in basis])
+    sure = all([divisor[1] % BASIS_PRIME for divisor in finder.divisors])
+    found = []
+    left = {0: 1}
+    for many in range(1, MOST_DEGREE // max(1, degree) + 1):
+        if sure and left:
+            division = RemainderDivision(multiplied(left, base), finder, NO_LIMITS, BASIS_PRIME)
+            division.run(ENDLESS)
+            left = {mono: number for mono, number, _ in division.rest}
+        if not sure or not left:
+            found.append(many)
+    return found
+
+
+def _power_of(polynomial, many):
+    """The power of a polynomial; TooMany if it is beyond the bounds."""
+    variable = (0, 0)
+    return unpacked(put_within(((((variable, many),), 1),), {variable: packed(polynomial)}))
+
+
+def staying(variables, some):
+    """All powers in the variables that no first term of the basis divides, the greatest first; None if endless many."""
+    check_variables(variables)
+    check_given(some)
+    if not all([variable in variables for variable in ring_of(some).variables]):
+        raise BadPolynomials("other variables")
+    ring = Ring(list(variables))
+    given = [ring.packed(polynomial) for polynomial in some]
+    likely = remainders_made(ring, given)
+    if likely is None:
+        raise TooMany(MOST_IN_BASIS)
+    # Where there are few, so that they are told, they are told by the basis itself.
+    if _left_by(ring, [max(terms) for terms in likely]) is None:
+        return None
+    told = _left_by(ring, [max(terms) for terms, _ in whole_made(ring, given, False)])
+    return tuple([ring.powers_of(mono) for mono in told])
+
+
+def _left_by(ring, leads):
+    """The packed powers that no lead divides, the greatest first; None if endless many, TooMany if more than 60."""
+    bare = [variable for variable in ring.variables if not _has_power(ring, leads, variable)]
+    if bare and 0 not in leads:
+        return None
+    found = []
+    row = [0]
+    while row:
+        row = [mono for mono in row if not any([ring.divides(lead, mono) for lead in leads])]
+        found.extend(row)
+        if len(found) > MOST_POWERS:
+            raise TooMany(MOST_POWERS)
+        row = sorted({mono + ring.units[variable] for mono in row for variable in ring.variables})
+    return sorted(found, reverse=True)
+
+
+def _has_power(ring, leads, variable):
+    """Whether a lead is a power of this variable alone."""
+    return any([[pair[0] for pair in ring.powers_of(lead)] == [variable] for lead in leads])

@@ -16,6 +16,7 @@ from samewriting.vanishing import MOST_POWERS, check_variables
 from samewriting.wholemaking import whole_made
 
 _EXTRA = (3, 15)
+_SHORT = 1000
 
 
 def belonging(some, polynomial):
@@ -79,14 +80,17 @@ def power_in(some, polynomial):
     if _EXTRA in ring.variables:
         raise BadVariables("(3, 15) is wanted for something else")
     basis = basis_told(ring, given)
-    never = _never(some, polynomial)
-    if never is not None:
-        return ("never", never)
-    for many in _likely_powers(ring, basis, polynomial):
-        power = _power_of(polynomial, many)
-        if not _rest_by(ring, basis, power):
-            return ("power", many) + _factors_of(ring, given, ring.packed(power))
-    raise TooMany(MOST_DEGREE)
+    # Short rests are looked at first: whether there is any such power is the longer question.
+    many = _least_power(ring, basis, polynomial, _SHORT)
+    if many is None:
+        never = _never(some, polynomial)
+        if never is not None:
+            return ("never", never)
+        many = _least_power(ring, basis, polynomial, ENDLESS)
+    if many is None:
+        raise TooMany(MOST_DEGREE)
+    power = _power_of(polynomial, many)
+    return ("power", many) + _factors_of(ring, given, ring.packed(power))
 
 
 def _never(some, polynomial):
@@ -100,22 +104,21 @@ def _never(some, polynomial):
     return None if basis == ((((), 1),),) else basis
 
 
-def _likely_powers(ring, basis, polynomial):
-    """The numbers from 1 on, as far as degrees let, whose powers leave the remainder 0; all right ones are among them."""
+def _least_power(ring, basis, polynomial, longest):
+    """The least number whose power is of the ideal, None if degrees or longer rests do not let it be found."""
     base = ring.packed(polynomial)
-    degree = ring.highest_degree(base)
     finder = _finder_of(ring, [ring.packed(other) for other in basis])
-    sure = all([divisor[1] % BASIS_PRIME for divisor in finder.divisors])
-    found = []
-    left = {0: 1}
-    for many in range(1, MOST_DEGREE // max(1, degree) + 1):
-        if sure and left:
-            division = RemainderDivision(multiplied(left, base), finder, NO_LIMITS, BASIS_PRIME)
-            division.run(ENDLESS)
-            left = {mono: number for mono, number, _ in division.rest}
-        if not sure or not left:
-            found.append(many)
-    return found
+    # Remainders that are not 0 show that a rest is not 0; where they are 0, it is divided in whole numbers.
+    left = {0: 1} if all([divisor[1] % BASIS_PRIME for divisor in finder.divisors]) else {}
+    for many in range(1, MOST_DEGREE // max(1, ring.highest_degree(base)) + 1):
+        division = RemainderDivision(multiplied(left, base), finder, NO_LIMITS, BASIS_PRIME)
+        division.run(ENDLESS)
+        left = {mono: number for mono, number, _ in division.rest}
+        if not left and not _rest_by(ring, basis, _power_of(polynomial, many)):
+            return many
+        if len(left) > longest:
+            return None
+    return None
 
 
 def _power_of(polynomial, many):

@@ -81,7 +81,7 @@ def always(reader, words):
 
 
 def is_answer(reader, words, thing):
-    """Whether any value tells that the text of each tree that is let by is taken, or tells a tree of which it is not."""
+    """Whether any value tells that all texts of trees that are let by are taken, or a tree whose text is not."""
     _check_both(reader, words)
     if not is_row(thing, 2):
         return False

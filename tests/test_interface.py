@@ -30,7 +30,15 @@ INTERFACE = (
     ("templates", "is_template(trees,thing) items_in(trees,template)"), ("plainly", "plain(trees,template)"),
     ("writers", "is_writer(thing) called(writer,state,tree)"), ("compiling", "writer_of(trees,template) as_template(writer)"),
     ("turning", "as_writer(reader) as_reader(writer)"), ("alike", "same_templates(trees,one,other,degree,size)"),
-    ("bases", "basis_of(some) shown(some) is_shown(some,thing)"))
+    ("bases", "basis_of(some) shown(some) is_shown(some,thing)"),
+    ("belonging", "belonging(some,polynomial) is_belonging(some,polynomial,thing) power_in(some,polynomial) staying(variables,some)"),
+    ("wordmachines", "is_words(thing) row_behind(words,text) takes_text(words,text) effect(words,text) least_words(words) words_not(words) "
+                     "words_both(one,other) just(text)"),
+    ("scribes", "is_scribe(thing) scribed(scribe,text) one_behind(one,other) pulled(scribe,words)"),
+    ("types", "signs(reader,words) within(reader,words) always(reader,words) is_answer(reader,words,thing)"),
+    ("composing", "composed(reader,scribe)"), ("tidying", "tidied(reader) merged(reader)"),
+    ("copying", "copies(reader) is_copies(reader,thing) most_copies(reader)"),
+    ("coverage", "coverage(trees,template) pruned(trees,template)"))
 
 FOLDER = os.path.dirname(samewriting.__file__)
 

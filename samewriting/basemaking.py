@@ -9,8 +9,8 @@ from samewriting.packed import trimmed
 from samewriting.reducing import ENDLESS, Finder, RemainderDivision, divisor_of, inverse_of, overlap_at, terms_of
 
 MOST_IN_BASIS = 60
-NO_LIMITS = (ENDLESS, ENDLESS, ENDLESS)
-NO_REST = (0, ENDLESS, ENDLESS)
+NO_LIMITS = (1 << 64, 1 << 64, 1 << 64)
+NO_REST = (0, 1 << 64, 1 << 64)
 
 # What is likely by its remainders is so, but for numbers that are made to deceive: nobody thinks of this prime.
 BASIS_PRIME = 1734981236409817307

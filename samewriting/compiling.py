@@ -51,7 +51,7 @@ def as_template(writer):
     blocks = []
     for own in rows:
         blocks.append([bodies.for_kind(pair[1], rules) for pair, rules in zip(kinds, own)])
-    if sum([bodies.items[body] for block in blocks for body in block]) > MOST_IN_ALL:
+    if sum([bodies.sizes[body] for block in blocks for body in block]) > MOST_IN_ALL:
         raise TooMany(MOST_IN_ALL)
     if max([bodies.ifs[body] for block in blocks for body in block]) > MOST_IFS:
         raise TooMany(MOST_IFS)
@@ -65,7 +65,7 @@ class Bodies:
         self.many = many
         self.numbers = {}
         self.recipes = []
-        self.items = []
+        self.sizes = []
         self.ifs = []
 
     def for_kind(self, rank, rules):
@@ -91,7 +91,7 @@ class Bodies:
         return self._kept(items, len(items), 0)
 
     def _of_if(self, child, states, body, other):
-        items = 1 + self.items[body] + self.items[other]
+        items = 1 + self.sizes[body] + self.sizes[other]
         ifs = 1 + max(self.ifs[body], self.ifs[other])
         return self._kept((child, states, body, other), items, ifs)
 
@@ -99,7 +99,7 @@ class Bodies:
         if recipe not in self.numbers:
             self.numbers[recipe] = len(self.recipes)
             self.recipes.append(recipe)
-            self.items.append(items)
+            self.sizes.append(items)
             self.ifs.append(ifs)
         return self.numbers[recipe]
 

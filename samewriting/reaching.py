@@ -103,8 +103,8 @@ class Climb:
         """The number of the least whole tree."""
         while self.queue:
             nodes = heappop(self.queue)
-            found = {key: self.reaching.tree_of(kind, kids, key[0], nodes)
-                     for key, (kind, kids) in self.waiting.pop(nodes).items()}
+            waiting = self.waiting.pop(nodes)
+            found = {key: self.reaching.tree_of(kind, kids, key[0], nodes) for key, (kind, kids) in waiting.items()}
             if nodes == self.best:
                 return self.grove.least_of(list(found.values()))[0]
             for key, tree in found.items():

@@ -20,7 +20,7 @@ class SignGrove(Grove):
         super().__init__(trees[1], trees[2], trees[3], 1 << 64)
         self.signs = signs
         self.limit = most
-        self.values = []
+        self.worths = []
         self.numbers = {}
         self.forms = {}
         self.below = [tuples_below(self.many, rank) for _, rank in self.kinds]
@@ -82,7 +82,7 @@ class SignGrove(Grove):
         if len(self.heads) == self.limit:
             raise TooMany(self.limit)
         self.numbers[key] = len(self.heads)
-        self.values.append(key[1])
+        self.worths.append(key[1])
         return self.keep(kind, kids, key[0], nodes)
 
     def _put_in_forms(self, tree):
@@ -97,7 +97,7 @@ class SignGrove(Grove):
 
     def _put_in(self, spot, form, kids, tree):
         kind, place, child = spot
-        told = self.signs.put_in(kind, place, child, form, self.values[tree])
+        told = self.signs.put_in(kind, place, child, form, self.worths[tree])
         if child + 1 == self.kinds[kind][1]:
             self._offer_tree(kind, place, kids + (tree,), self.signs.done(told))
         else:

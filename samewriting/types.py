@@ -60,13 +60,13 @@ def within(reader, words):
 def _goal_at(grove, kind, trees):
     """The number of the sign of a tree, by those of its children."""
     place = place_of(grove.many, [grove.states[tree] for tree in trees])
-    rooms = grove.signs.rooms_at(kind, place, [grove.values[tree] for tree in trees])
+    rooms = grove.signs.rooms_at(kind, place, [grove.worths[tree] for tree in trees])
     return grove.numbers[(grove.rows[kind][place], rooms)]
 
 
 def _is_taken(grove, words, tree):
     """Whether what is written of trees of a sign is taken, None if they are not let by."""
-    told = grove.signs.end_at(grove.states[tree], grove.values[tree])
+    told = grove.signs.end_at(grove.states[tree], grove.worths[tree])
     return None if told is None else grove.signs.effects.found[told][0] in words[2]
 
 

@@ -10,7 +10,7 @@ from samewriting.packed import add_times, trimmed
 from samewriting.putting import MOST_TERMS
 
 # Longer factors could be told by nobody, and take long to reckon.
-_MOST_KEPT = 20000
+_MOST_KEPT = 4000
 
 
 def combined_proof(parts, scale, proofs):

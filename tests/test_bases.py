@@ -226,6 +226,22 @@ class Shown(Case):
         self.assertIs(is_shown(some, tuple((many + PRIME, factors) for many, factors in told)), False)
         self.assertIs(is_shown(some, tuple((many * PRIME, tuple(scaled(factor, PRIME) for factor in factors)) for many, factors in told)), True)
 
+    def test_factors_beyond_the_bounds(self):
+        # 1 is y ** n x ** n less (x y - 1) times 1 + .. + (x y) ** (n - 1), and less is not enough.
+        some = (P, power(X, 21))
+        self.assertIs(is_shown(some, shown(some)), True)
+        some = (P, power(X, 22))
+        self.assertEqual(basis_of(some), (ONE,))
+        self.too_many(40, shown, some)
+        self.assertIs(is_shown(some, ((1, (ONE, ONE)),)), False)
+        # Far too many terms on the way, or in the end.
+        choose = chance(10)
+        variables = [(0, room) for room in range(5)]
+        some = tuple(dense(choose, variables, 2, False, 1) for _ in range(5)) + (dense(choose, variables[:2], 6, False, 1),)
+        self.assertEqual(basis_of(some), (ONE,))
+        with mock.patch("samewriting.proofs._MOST_KEPT", 30):
+            self.too_many(400, shown, some)
+
     def test_by_name(self):
         self.assertEqual(basis_of(some=(P, Q)), (ONE,))
         self.assertIs(is_shown(some=(P, Q), thing=shown(some=(P, Q))), True)

@@ -217,9 +217,12 @@ class SameTexts(Case):
         kinds = one_state(EF)
         for function, rest in ((same_texts, (0, 0)), (same_thin, ())):
             self.raises(BadReader, function, bad, bad, None, *rest)
+            self.raises(BadReader, function, bad, self.one, None, *rest)
             self.raises(BadReader, function, self.one, bad, None, *rest)
             self.raises(BadSet, function, self.one, self.one, None, *rest)
             self.raises(OtherKinds, function, far, self.one, kinds, *rest)
+            self.raises(OtherKinds, function, readers_of(one_state(EFS), 1, lambda name, states: ((),), lambda state: None), self.one,
+                        self.every, *rest)
             self.raises(OtherKinds, function, self.one, readers_of(one_state(EFS), 1, lambda name, states: ((),), lambda state: None),
                         self.every, *rest)
         self.raises(BadDegree, same_texts, far, far, self.every, 0, 0)

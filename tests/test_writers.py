@@ -43,6 +43,11 @@ class IsWriter(Case):
                      (call(-1, 0),), (call(0, -1),), (call(True, 0),), (call(0, False),), (room(0, 0),), [], "", 0, ("say", "a"),
                      (("call", 0),), (("call", 0, 0, 0),), (("say",),)):
             self.assertIs(is_writer(with_rule(rule)), False)
+        # Each rule of each row counts.
+        many = writer_over(cycle(3), 2, lambda state, name, states: (call(0, 1),) if states else None)
+        for place in range(3):
+            self.assertIs(is_writer(exchanged(many, (3, 1, 1, place), None)), True)
+            self.assertIs(is_writer(exchanged(many, (3, 1, 1, place), (call(0, 2),))), False)
         self.assertIs(is_writer(exchanged(TURNED, (1,), ES)), False)
         self.assertIs(is_writer(exchanged(TURNED, (1,), (("e", False), ("f", 2)))), False)
 

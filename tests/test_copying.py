@@ -236,6 +236,24 @@ class Copies(Case):
         # The judge knows no such bound.
         self.assertIs(is_copies(more, ("at most", plain_counting(more, 2001))), True)
 
+    def test_many_pairs_without_a_loop(self):
+        # By u room 0 comes into 1 and 3, and 2 into 3; back come 1 by p alone, 3 by q alone: never both.
+        kinds = (("e", 0), ("p", 1), ("q", 1), ("s", 1), ("t", 1), ("u", 1))
+        into = {"u": {1: (0,), 3: (0, 2)}, "p": {0: (1,)}, "q": {2: (3,)}}
+
+        def rule(name, states):
+            if not states:
+                return ((say("a"),),) * 8
+            mine = into.get(name, {number: (number,) for number in range(4)})
+            others = {"s": (5, 6, 7, 4), "t": (5, 4, 6, 7)}.get(name, (4, 5, 6, 7))
+            return tuple(tuple(room(0, other) for other in mine.get(number, ())) for number in range(4)) + tuple((room(0, other),) for other in others)
+        ends = tuple(room(0, number) for number in (0, 1, 2, 3, 3, 5, 6, 6, 7, 7, 7))
+        reader = readers_of(cycle(20, (), kinds), 8, rule, lambda state: ends)
+        self.assertGreater(len(plain_counting(reader, 10 ** 5)), 2000)
+        self.too_many(2000, copies, reader)
+        fewer = readers_of(one_state(kinds), 8, rule, lambda state: ends)
+        self.assertEqual(self.check(fewer)[0], "at most")
+
     def test_dense_ones(self):
         choose = chance(2)
         kinds = (("e", 0), ("f", 2), ("s", 1))
@@ -281,6 +299,8 @@ class IsCopies(Case):
         self.assertIs(is_copies(self.finite, ("at most", more)), True)
         self.assertIs(is_copies(self.finite, ("at most", told[1] + ((1, (7, 0)),))), False)
         self.assertIs(is_copies(self.finite, ("at most", tuple(sorted(told[1] + ((0, (1, 1)), (1, (1, 1))))))), True)
+        self.assertIs(is_copies(self.finite, ("at most", told[1] + ((2, (0, 0)),))), False)
+        self.assertIs(is_copies(self.finite, ("at most", ((-1, (0, 0)),) + told[1])), False)
         self.assertIs(is_copies(self.finite, ("at most", ())), False)
         self.assertIs(is_copies(doubling(None), ("at most", ())), True)
         self.assertIs(is_copies(doubling(None), ("at most", ((0, (0, 0)),))), True)

@@ -320,6 +320,17 @@ class IsAnswer(Case):
         self.assertIs(is_answer(even, EVEN, ("always", told[1] + ((1, ((1, 0),)),))), False)
         self.assertIs(is_answer(even, EVEN, ("always", ())), False)
 
+    def test_each_room_counts(self):
+        reader = doubling((room(0, 1),))
+        words = ("words", ((0, 0, 1), (1, 1, 1)), (1,))
+        told = always(reader, words)
+        self.assertEqual(told[0], "always")
+        self.assertIs(is_answer(reader, words, told), True)
+        for path in parts_of(told[1]):
+            part = at_path(told[1], path)
+            for other in (2, -1, True) if isinstance(part, int) else (part[:-1], part + part[:1], None, list(part)):
+                self.assertIs(is_answer(reader, words, ("always", exchanged(told[1], path, other))), False)
+
     def test_just_one_word(self):
         choose = chance(5)
         for _ in range(60):

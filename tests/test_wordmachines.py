@@ -39,6 +39,7 @@ class IsWords(Case):
             self.raises(BadWords, least_words, thing)
             self.raises(BadWords, words_not, thing)
             self.raises(BadWords, words_both, thing, None)
+            self.raises(BadWords, words_both, thing, EVEN)
             self.raises(BadWords, words_both, EVEN, thing)
             self.raises(BadWords, pulled, DOUBLE, thing)
         for text in NO_TEXTS:
@@ -86,6 +87,7 @@ class Least(Case):
         self.assertEqual(least_words(length_by(6, (0, 2, 4))), EVEN)
         self.assertEqual(words_not(EVEN), ("words", ((1, 1, 1), (0, 0, 0)), (1,)))
         self.assertEqual(words_not(all_texts()), ("words", ((0, 0, 0),), ()))
+        self.assertEqual(words_not(length_by(8, (0, 2, 5))), length_by(8, (1, 3, 4, 6, 7)))
         self.assertEqual(just(""), ("words", ((1, 1, 1), (1, 1, 1)), (0,)))
         self.assertEqual(just("b"), ("words", ((1, 2, 1), (1, 1, 1), (1, 1, 1)), (2,)))
         # The walk goes row by row, a ahead of b ahead of c.
@@ -158,6 +160,13 @@ class IsScribe(Case):
             self.assertIs(is_scribe(exchanged(DOUBLE, (2, 0), letters)), right or letters is None)
         for goal in (1, -1, False, None, "0"):
             self.assertIs(is_scribe(exchanged(DOUBLE, (1, 0, 1, 0), goal)), False)
+        # Each row and each end counts.
+        for place in range(4):
+            self.assertIs(is_scribe(exchanged(with_rows(4), (1, place, 2), (3, "a" * 8))), True)
+            self.assertIs(is_scribe(exchanged(with_rows(4), (1, place, 2), (4, ""))), False)
+            self.assertIs(is_scribe(exchanged(with_rows(4), (1, place, 2), (0, "a" * 9))), False)
+            self.assertIs(is_scribe(exchanged(with_rows(4), (2, place), "a" * 8)), True)
+            self.assertIs(is_scribe(exchanged(with_rows(4), (2, place), "a" * 9)), False)
 
     def test_wrong_ones(self):
         self.takes_none_of(is_scribe, ODD)
@@ -168,6 +177,7 @@ class IsScribe(Case):
         for thing in ODD:
             self.raises(BadScribe, scribed, thing, None)
             self.raises(BadScribe, one_behind, thing, None)
+            self.raises(BadScribe, one_behind, thing, DOUBLE)
             self.raises(BadScribe, one_behind, DOUBLE, thing)
             self.raises(BadScribe, pulled, thing, None)
 

@@ -63,11 +63,13 @@ class Steps:
 
 def _numbers_of(rooms, at):
     """For each room of the child at this place the pairs (room, how often it stands in that)."""
-    told = []
-    for room in range(len(rooms)):
-        often = [pieces.count(("room", at, room)) for pieces in rooms]
-        told.append(tuple([(other, many) for other, many in enumerate(often) if many]))
-    return tuple(told)
+    told = [{} for _ in rooms]
+    for other, pieces in enumerate(rooms):
+        for item in pieces:
+            if item[0] == "room" and item[1] == at:
+                row = told[item[2]]
+                row[other] = row.get(other, 0) + 1
+    return tuple([tuple(sorted(row.items())) for row in told])
 
 
 def _put_on(row, numbers):

@@ -276,6 +276,11 @@ class Staying(Case):
         self.assertEqual(len(staying((X, Y), (poly((1, X, Y)), power(X, 30), power(Y, 31)))), 60)
         self.too_many(60, staying, (X, Y), (poly((1, X, Y)), power(X, 31), power(Y, 31)))
         self.within(10, self.too_many, 60, staying, tuple((0, room) for room in range(8)), tuple(power((0, room), 40) for room in range(8)))
+        # 64 powers stay of six such polynomials, whose basis has more than 60 as well.
+        choose = chance(8)
+        six = tuple((0, room) for room in range(6))
+        for only in (True, False):
+            self.within(10, self.too_many, 60, staying, six, tuple(dense(choose, six, 2, only, 2) for _ in range(6)))
         # Endless many are told, however many there are of each degree.
         self.assertIs(self.within(10, staying, tuple((0, room) for room in range(8)), tuple(power((0, room), 40) for room in range(7))), None)
 

@@ -97,6 +97,9 @@ class Coded(Case):
         # The end tells power and number together.
         coded(on_chain((), (), (say("a" * 40), say("a" * 26))))
         self.too_many(10 ** 40, coded, on_chain((), (), (say("c" * 40), say("c" * 26))))
+        # One coefficient is enough, whatever the others are.
+        self.too_many(10 ** 40, coded, on_chain((), (), (say("a" * 40), say("a" * 40), room(0, 0))))
+        self.too_many(10 ** 40, coded, on_chain((), (), (room(0, 0), say("a" * 40), say("a" * 40))))
         # The last text whose code is not beyond the bound, and the next one.
         text = ""
         while len(text) < 66:

@@ -319,9 +319,18 @@ class IsCopies(Case):
                 self.assertIs(is_copies(reader, thing), False, path)
         for loop in itertools.product((0, 1, 2), range(-1, 4), range(-1, 4), ((), (("s", 0, (0,)),), (("s", 0, (0,)), ("s", 0, (1,))),
                                       (("s", 0, (1,)), ("s", 0, (0,))), (("s", 0, (0,)), ("s", 0, (1,))) * 3, (("s", 0, (0,)), ("s", 0, (0,))),
-                                      (("s", 1, (0,)),), (("e", 0, ()),), (("s", 0, (0, 1)),), (("x", 0, (0,)),), (("s", 0, (2,)),))):
+                                      (("s", 1, (0,)),), (("s", -1, (0,)), ("s", 0, (1,))), (("e", 0, ()),), (("s", 0, (-2,)), ("s", 0, (-1,))), (("s", 0, (0, 1)),), (("x", 0, (0,)),), (("s", 0, (2,)),))):
             wanted = loop[0] < 2 and 0 <= loop[1] < 3 and 0 <= loop[2] < 3 and plain_loop(reader, *loop)
             self.assertIs(is_copies(reader, ("endless", loop)), wanted, loop)
+
+    def test_rooms_of_loops(self):
+        reader = adding(2, 0)
+        way = (("s", 0, (0,)),)
+        self.assertIs(is_copies(reader, ("endless", (0, 2, 0, way))), True)
+        for first, second in ((-1, 0), (2, -3), (True, 0), (2, False), (None, 0), (3, 0), (2, 3)):
+            self.assertIs(is_copies(reader, ("endless", (0, first, second, way))), False)
+        for state in (1, -1, False, None):
+            self.assertIs(is_copies(reader, ("endless", (state, 2, 0, way))), False)
 
     def test_loops_of_no_use(self):
         # Room 0 doubles, but comes into nothing that is written.

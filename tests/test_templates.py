@@ -71,8 +71,8 @@ class IsTemplate(Case):
             self.assertIs(self.fits((when(0, states, ()),), trees=three), True)
         wrong = (say(""), say("a" * 41), say("d"), say(None), ("say",), ("say", "a", "b"), to(2, 0), to(0, 2), to(-1, 0), to(0, -1), to(True, 0),
                  to(0, False), ("call", 0), ("call", 0, 0, 0), when(2, (0,), ()), when(0, (), ()), when(0, (3,), ()), when(0, (1, 0), ()),
-                 when(0, (1, 1), ()), when(0, [0], ()), when(0, 0, ()), when(True, (0,), ()), ("if", 0, (0,), ()), ("if", 0, (0,), (), (), ()),
-                 when(0, (0,), [], ()), when(0, (0,), (), None), when(0, (True,), ()), along(2, 0), along(0, 2), along(0, 0, "a" * 9),
+                 when(0, (1, 1), ()), when(0, [0], ()), when(0, 0, ()), when(True, (0,), ()), when(-1, (0,), ()), when(0, (-1, 0), ()), ("if", 0, (0,), ()), ("if", 0, (0,), (), (), ()),
+                 when(0, (0,), [], ()), when(0, (0,), (), None), when(0, (True,), ()), along(2, 0), along(0, 2), along(-1, 0), along(0, -1), along(True, 0), along(0, 0, "a" * 9),
                  along(0, 0, "", "a" * 9), along(0, 0, "d"), along(0, 0, None), along(0, 0, "", ("a",)), along(0, 0, name="e"),
                  along(0, 0, name="g"), along(0, 0, name=0), along(0, 0, name=["f"]), ("for", "f", 0, 0, ""), ("for", "f", 0, 0, "", "", ""),
                  ("room", 0, 0), ("use", 0), (), None, 0, "say", ["say", "a"])

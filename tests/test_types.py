@@ -331,6 +331,16 @@ class IsAnswer(Case):
             for other in (2, -1, True) if isinstance(part, int) else (part[:-1], part + part[:1], None, list(part)):
                 self.assertIs(is_answer(reader, words, ("always", exchanged(told[1], path, other))), False)
 
+    def test_signs_of_no_tree(self):
+        # Rooms are dropped everywhere: any further sign leads to those of trees, if it is one.
+        reader = readers_of(one_state(ES), 1, lambda name, states: ((),), lambda state: ())
+        self.assertEqual(always(reader, EVEN), ("always", ((0, ((0, 1),)),)))
+        for rows in itertools.product((-1, 0, 1, 2), repeat=2):
+            some = tuple(sorted({(0, ((0, 1),)), (0, (rows,))}))
+            self.assertIs(is_answer(reader, EVEN, ("always", some)), set(rows) <= {0, 1})
+        for state in (-1, 1, True):
+            self.assertIs(is_answer(reader, EVEN, ("always", tuple(sorted({(0, ((0, 1),)), (state, ((1, 1),))})))), False)
+
     def test_just_one_word(self):
         choose = chance(5)
         for _ in range(60):

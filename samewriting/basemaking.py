@@ -12,8 +12,9 @@ MOST_IN_BASIS = 60
 NO_LIMITS = (1 << 64, 1 << 64, 1 << 64)
 NO_REST = (0, 1 << 64, 1 << 64)
 
-# What is likely by its remainders is so, but for numbers that are made to deceive: nobody thinks of this prime.
+# What is likely by remainders is so, but for numbers that are made to deceive: nobody thinks of these primes.
 BASIS_PRIME = 1734981236409817307
+_FURTHER_PRIME = 1398472650918273701
 
 
 class BasisMaker:
@@ -95,7 +96,11 @@ class BasisMaker:
 
 
 class RemainderMaker(BasisMaker):
-    """A basis of which only remainders by the prime are told, all first coefficients 1."""
+    """A basis of which only remainders by a prime are told, all first coefficients 1."""
+
+    def __init__(self, ring, given, prime):
+        super().__init__(ring, given)
+        self.prime = prime
 
     def take_given(self, number, sugar):
         """Take one of the given polynomials."""
@@ -112,9 +117,9 @@ class RemainderMaker(BasisMaker):
 
     def rest_of(self, terms, finder):
         """The rest by divisors, its first coefficient 1."""
-        division = RemainderDivision(terms, finder, NO_LIMITS, BASIS_PRIME)
+        division = RemainderDivision(terms, finder, NO_LIMITS, self.prime)
         division.run(ENDLESS)
-        return with_head_one({mono: number for mono, number, _ in division.rest})
+        return with_head_one({mono: number for mono, number, _ in division.rest}, self.prime)
 
     def reduced(self):
         """The basis, in order."""
@@ -128,17 +133,26 @@ class RemainderMaker(BasisMaker):
         return told
 
 
-def with_head_one(terms):
+def with_head_one(terms, prime):
     """The remainders of terms with the first coefficient 1, none if they have another first term."""
-    if not terms or terms[max(terms)] % BASIS_PRIME == 0:
+    if not terms or terms[max(terms)] % prime == 0:
         return {}
-    factor = inverse_of(terms[max(terms)], BASIS_PRIME)
-    return trimmed({mono: terms[mono] * factor for mono in terms}, BASIS_PRIME)
+    factor = inverse_of(terms[max(terms)], prime)
+    return trimmed({mono: terms[mono] * factor for mono in terms}, prime)
 
 
 def remainders_made(ring, given):
     """The remainders of the polynomials of the only basis, in order; None if there are too many."""
-    maker = RemainderMaker(ring, given)
+    return _made_by(ring, given, BASIS_PRIME)
+
+
+def _made_by(ring, given, prime):
+    maker = RemainderMaker(ring, given, prime)
     if not maker.run() or len(maker.active) > MOST_IN_BASIS:
         return None
     return maker.reduced()
+
+
+def is_all(ring, given, likely):
+    """Whether 1 is of the ideal, as the remainders of its basis, made already, and those by a further prime tell."""
+    return likely == [{0: 1}] and _made_by(ring, given, _FURTHER_PRIME) == [{0: 1}]

@@ -1,6 +1,6 @@
 """Bases of ideals, and how their polynomials are made of given ones."""
 
-from samewriting.basemaking import MOST_IN_BASIS, remainders_made
+from samewriting.basemaking import MOST_IN_BASIS, is_all, remainders_made
 from samewriting.errors import BadPolynomials, TooMany
 from samewriting.judging import is_factored
 from samewriting.polynomials import is_polynomial
@@ -34,8 +34,11 @@ def basis_of(some):
 
 def basis_told(ring, given):
     """As basis_of, of packed polynomials."""
-    # That it is beyond the bounds is seen by remainders, ahead of reckoning with long numbers.
-    _check_basis(ring, remainders_made(ring, given))
+    # That it is beyond the bounds, or has 1 in it, is seen by remainders, ahead of reckoning with long numbers.
+    likely = remainders_made(ring, given)
+    _check_basis(ring, likely)
+    if is_all(ring, given, likely):
+        return ((((), 1),),)
     basis = whole_made(ring, given, False)
     _check_basis(ring, None if basis is None else [terms for terms, _ in basis])
     return tuple([ring.unpacked(terms) for terms, _ in basis])

@@ -1,6 +1,6 @@
 """Whether polynomials, or powers of them, are of an ideal; and what stays when all is divided by it."""
 
-from samewriting.basemaking import BASIS_PRIME, MOST_IN_BASIS, NO_LIMITS, remainders_made
+from samewriting.basemaking import BASIS_PRIME, MOST_IN_BASIS, NO_LIMITS, is_all, remainders_made
 from samewriting.bases import basis_told, check_given, proof_told, ring_of
 from samewriting.dividing import is_basis
 from samewriting.errors import BadPolynomials, BadVariables, TooMany
@@ -138,6 +138,8 @@ def staying(variables, some):
     likely = remainders_made(ring, given)
     if likely is None:
         raise TooMany(MOST_IN_BASIS)
+    if is_all(ring, given, likely):
+        return ()
     # Where there are few, so that they are told, they are told by the basis itself.
     if _left_by(ring, [max(terms) for terms in likely]) is None:
         return None

@@ -50,7 +50,7 @@ class WholeMaker(BasisMaker):
             self._keep_image(rest)
 
     def _keep_image(self, terms):
-        image = with_head_one(terms)
+        image = with_head_one(terms, BASIS_PRIME)
         if image and max(image) == max(terms):
             self.images.append(divisor_of(image))
         else:

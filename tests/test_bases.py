@@ -3,7 +3,7 @@ from unittest import mock
 
 from helpers import ODD, PRIME, Case, at_path, chance, exchanged, parts_of, poly, power, wrong_kinds, wrong_lengths
 from ideals import is_sum, plain_basis
-from samewriting.basemaking import BASIS_PRIME
+from samewriting.basemaking import _FURTHER_PRIME, BASIS_PRIME
 from samewriting.bases import basis_of, is_shown, shown
 from samewriting.dividing import divided, is_basis
 from samewriting.errors import BadPolynomials, TooMany
@@ -132,7 +132,10 @@ class BasisOf(Case):
 
     def test_multiples_of_primes(self):
         # What remainders do not see must be seen nevertheless.
-        for prime in (PRIME, BASIS_PRIME):
+        for prime in (PRIME, BASIS_PRIME, _FURTHER_PRIME):
+            self.assertEqual(basis_of((poly((prime, X), (-1,)),)), (poly((prime, X), (-1,)),))
+            self.assertEqual(basis_of((poly((prime, X), (-1,)), poly((prime, X, Y), (1,)))), (poly((1, Y), (1,)), poly((prime, X), (-1,))))
+            self.assertEqual(basis_of((poly((prime, X), (-1,)), poly((prime, X), (1,)))), (ONE,))
             self.assertEqual(basis_of((poly((1, X)), poly((1, X), (prime, Y)))), (poly((1, Y)), poly((1, X))))
             self.assertEqual(basis_of((poly((prime, X, X), (1, Y)), poly((1, X), (-1, Y)))), (poly((1, X), (-1, Y)), poly((prime, Y, Y), (1, Y))))
             self.assertEqual(basis_of((poly((1, X, Y), (1,)), poly((1, X, Y), (prime + 1,)))), (ONE,))

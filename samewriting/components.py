@@ -49,26 +49,30 @@ class Components:
                 self.numbers[last] = self.order[node]
 
 
-def way_to(start, goal, labelled_edges):
-    """The labels along a shortest way of at least one edge, None if there is no way.
+def way_to(start, goal, labelled_edges, most=1 << 64):
+    """The labels along a shortest way of at least one edge, None if there is none, or if more nodes are gone through.
 
     labelled_edges(node) tells the pairs (label, node) of the edges from a node.
     """
     back = {}
     row = [start]
-    while row and goal not in back:
+    while row and goal not in back and most > 0:
         further = []
-        for node in row:
+        for node in row[:most]:
             for label, other in labelled_edges(node):
                 if other not in back:
                     back[other] = (node, label)
                     further.append(other)
+            if goal in back:
+                break
+        most -= len(row)
         row = further
-    if goal not in back:
-        return None
-    told = []
+    return _labels_to(back, start, goal) if goal in back else None
+
+
+def _labels_to(back, start, goal):
     node, label = back[goal]
-    told.append(label)
+    told = [label]
     while node != start:
         node, label = back[node]
         told.append(label)

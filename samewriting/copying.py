@@ -36,15 +36,17 @@ def _links_by_goal(steps):
 def _pairs_of(steps):
     """The pairs of the counting of fewest pairs, None if there are too many."""
     links = _links_by_goal(steps)
-    known = {}
     waiting = _first_pairs(steps)
+    known = {pair: True for pair in waiting}
     while waiting:
-        pair = waiting.pop()
-        if pair not in known:
-            known[pair] = True
-            if len(known) > _MOST_PAIRS:
-                return None
-            waiting.extend([(state, further_of(numbers, pair[1])) for state, _, numbers, _ in links.get(pair[0], [])])
+        goal, counts = waiting.pop()
+        for state, _, numbers, _ in links.get(goal, []):
+            pair = (state, further_of(numbers, counts))
+            if pair not in known:
+                if len(known) == _MOST_PAIRS:
+                    return None
+                known[pair] = True
+                waiting.append(pair)
     return list(known)
 
 

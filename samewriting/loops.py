@@ -2,6 +2,8 @@
 
 from samewriting.components import Components, way_to
 
+_FEW = 20
+
 
 class Loops:
     """Looks for a loop among the rooms of use. The nodes are a state with one room, with two, or with three.
@@ -36,7 +38,19 @@ class Loops:
 
     def any_loop(self):
         """A loop, None if there is none."""
-        return self._doubling() or self._adding()
+        return self._near_at_hand() or self._doubling() or self._adding()
+
+    def _near_at_hand(self):
+        """A loop that is found soon, where there are many: a room comes into two ones that come back to it."""
+        for state, room in self.nodes[:_FEW]:
+            start = (state, room, room)
+            for step, node in self._pair_edges(start):
+                if node[1] != node[2]:
+                    way = way_to(node, start, self._pair_edges, _FEW)
+                    if way is not None:
+                        return (state, room, room, (step,) + tuple(way))
+                    break
+        return None
 
     def _pair_edges(self, node):
         """Two rooms go along the same steps, and may come back: (step, node)."""
@@ -45,7 +59,7 @@ class Loops:
                 for one in near[first] for other in near[second]]
 
     def _pairs_behind(self, node):
-        return [goal for _, goal in self._pair_edges(node)]
+        return list({goal: True for _, goal in self._pair_edges(node)})
 
     def _doubling(self):
         """A loop along which a room comes into itself twice at least."""
@@ -95,7 +109,7 @@ class Loops:
         return found
 
     def _triples_behind(self, node):
-        return [goal for _, goal in self._triple_edges(node)]
+        return list({goal: True for _, goal in self._triple_edges(node)})
 
     def _adding(self):
         """A loop along which a room comes into itself and into another one that comes into itself."""

@@ -22,6 +22,7 @@ class SignGrove(Grove):
         self.limit = most
         self.worths = []
         self.numbers = {}
+        self.met = {}
         self.forms = {}
         self.below = [tuples_below(self.many, rank) for _, rank in self.kinds]
         # For each state the (kind, place of a row, child) at which it stands.
@@ -44,9 +45,14 @@ class SignGrove(Grove):
             self._settle_all(heappop(self.queue))
 
     def _offer_tree(self, kind, place, kids, value):
-        state = self.rows[kind][place]
-        if (state, value) not in self.numbers:
-            self._offer_best((state, value), kind, kids)
+        key = (self.rows[kind][place], value)
+        if key not in self.met:
+            # That there are too many is seen here, long before all of them are in order.
+            if len(self.met) == self.limit:
+                raise TooMany(self.limit)
+            self.met[key] = True
+        if key not in self.numbers:
+            self._offer_best(key, kind, kids)
 
     def _offer_form(self, kind, place, child, form, kids):
         if form not in self.forms.get((kind, place, child), {}):
@@ -79,8 +85,6 @@ class SignGrove(Grove):
             self._put_children_in(key, kids)
 
     def _keep_sign(self, key, kind, kids, nodes):
-        if len(self.heads) == self.limit:
-            raise TooMany(self.limit)
         self.numbers[key] = len(self.heads)
         self.worths.append(key[1])
         return self.keep(kind, kids, key[0], nodes)

@@ -16,7 +16,8 @@ from samewriting.vanishing import MOST_POWERS, check_variables
 from samewriting.wholemaking import whole_made
 
 _EXTRA = (3, 15)
-_SHORT = 1000
+_EASY_POWERS = 2000000
+_MOST_POWERS = 60
 
 
 def belonging(some, polynomial):
@@ -80,8 +81,8 @@ def power_in(some, polynomial):
     if _EXTRA in ring.variables:
         raise BadVariables("(3, 15) is wanted for something else")
     basis = basis_told(ring, given)
-    # Short rests are looked at first: whether there is any such power is the longer question.
-    many = _least_power(ring, basis, polynomial, _SHORT)
+    # As long as it is easy, powers are looked at first: whether there is any right one is the longer question.
+    many = _least_power(ring, basis, polynomial, _EASY_POWERS)
     if many is None:
         never = _never(some, polynomial)
         if never is not None:
@@ -104,21 +105,36 @@ def _never(some, polynomial):
     return None if basis == ((((), 1),),) else basis
 
 
-def _least_power(ring, basis, polynomial, longest):
-    """The least number whose power is of the ideal, None if degrees or longer rests do not let it be found."""
+def _least_power(ring, basis, polynomial, patience):
+    """The least number whose power is of the ideal, None if it is not found.
+
+    TooMany if a power with a higher degree than is let is the least one.
+    """
     base = ring.packed(polynomial)
+    degree = max(1, ring.highest_degree(base))
     finder = _finder_of(ring, [ring.packed(other) for other in basis])
     # Remainders that are not 0 show that a rest is not 0; where they are 0, it is divided in whole numbers.
-    left = {0: 1} if all([divisor[1] % BASIS_PRIME for divisor in finder.divisors]) else {}
-    for many in range(1, MOST_DEGREE // max(1, ring.highest_degree(base)) + 1):
-        division = RemainderDivision(multiplied(left, base), finder, NO_LIMITS, BASIS_PRIME)
-        division.run(ENDLESS)
-        left = {mono: number for mono, number, _ in division.rest}
-        if not left and not _rest_by(ring, basis, _power_of(polynomial, many)):
-            return many
-        if len(left) > longest:
-            return None
+    sure = all([divisor[1] % BASIS_PRIME for divisor in finder.divisors])
+    left = {0: 1} if sure else {}
+    many = 0
+    while patience > 0 and ((many + 1) * degree <= MOST_DEGREE or sure and many < _MOST_POWERS):
+        many += 1
+        patience -= len(left) * len(base)
+        left = _next_rest(left, base, finder)
+        if not left and many * degree > MOST_DEGREE:
+            raise TooMany(MOST_DEGREE)
+        if not left:
+            if not _rest_by(ring, basis, _power_of(polynomial, many)):
+                return many
+            sure = False
     return None
+
+
+def _next_rest(left, base, finder):
+    """The remainders of the rest of the next power, of those of the one ahead of it."""
+    division = RemainderDivision(multiplied(left, base), finder, NO_LIMITS, BASIS_PRIME)
+    division.run(ENDLESS)
+    return {mono: number for mono, number, _ in division.rest}
 
 
 def _power_of(polynomial, many):

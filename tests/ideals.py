@@ -1,8 +1,10 @@
 """Ideals by slow reckoning with fractions, on dicts from powers to coefficients."""
 
+import itertools
 from fractions import Fraction
 from math import gcd
 
+from helpers import poly
 from papers import plus, times
 
 
@@ -92,3 +94,20 @@ def is_sum(some, polynomial, many, factors):
     for factor, other in zip(factors, some):
         told = plus(told, times(dict(factor), dict(other)))
     return told == {powers: many * number for powers, number in polynomial}
+
+
+def random_poly(choose, variables, degree, terms, most=9):
+    return poly(*[(choose.choice((-1, 1)) * choose.randint(1, most),) +
+                  tuple(choose.choice(variables) for _ in range(choose.randint(0, degree))) for _ in range(terms)])
+
+
+def dense(choose, variables, degree, only=False, most=5):
+    degrees = [degree] if only else range(degree + 1)
+    return poly(*[(choose.choice((-1, 1)) * choose.randint(1, most),) + some
+                  for many in degrees for some in itertools.combinations_with_replacement(variables, many)])
+
+
+def chain(many, child=0, last=()):
+    """Two polynomials the basis of which has many + 2: x x .. , x .. y v, .., y v .. y v and x u - y v."""
+    x, y, u, v = [(child, room) for room in range(4)]
+    return poly((1, x, u), (-1, y, v)), poly((1,) + (x,) * many + last)

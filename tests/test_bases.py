@@ -1,29 +1,17 @@
-import itertools
 from unittest import mock
 
 from helpers import ODD, PRIME, Case, at_path, chance, exchanged, parts_of, poly, power, wrong_kinds, wrong_lengths
-from ideals import is_sum, plain_basis
+from ideals import chain, dense, is_sum, plain_basis, random_poly
 from samewriting.basemaking import _FURTHER_PRIME, BASIS_PRIME
 from samewriting.bases import basis_of, is_shown, shown
 from samewriting.dividing import divided, is_basis
-from samewriting.errors import BadPolynomials, TooMany
+from samewriting.errors import BadPolynomials
 from samewriting.polynomials import is_polynomial, scaled, times
 
 X, Y, Z, W = (0, 0), (0, 1), (1, 0), (3, 15)
 P = poly((1, X, Y), (-1,))
 Q = poly((1, X, X))
 ONE = poly((1,))
-
-
-def random_poly(choose, variables, degree, terms, most=9):
-    return poly(*[(choose.choice((-1, 1)) * choose.randint(1, most),) +
-                  tuple(choose.choice(variables) for _ in range(choose.randint(0, degree))) for _ in range(terms)])
-
-
-def dense(choose, variables, degree, only=False, most=5):
-    degrees = [degree] if only else range(degree + 1)
-    return poly(*[(choose.choice((-1, 1)) * choose.randint(1, most),) + some
-                  for many in degrees for some in itertools.combinations_with_replacement(variables, many)])
 
 
 class BasisOf(Case):
@@ -85,30 +73,25 @@ class BasisOf(Case):
         self.within(20, self.too_many, 60, shown, tuple(dense(choose, variables, 2, False, 2) for _ in range(6)))
         self.within(20, self.too_many, 60, is_shown, tuple(dense(choose, variables, 2, False, 2) for _ in range(6)), None)
 
-    def chain(self, many, child=0, last=()):
-        """Two polynomials the basis of which has many + 2: x x .. , x .. y v, .., y v .. y v and x u - y v."""
-        x, y, u, v = [(child, room) for room in range(4)]
-        return poly((1, x, u), (-1, y, v)), poly((1,) + (x,) * many + last)
-
     def test_just_sixty(self):
         u, v = (0, 2), (0, 3)
-        self.assertEqual(basis_of(self.chain(2)), (poly((1, X, u), (-1, Y, v)), poly((1, X, X)), poly((1, X, Y, v)), poly((1, Y, Y, v, v))))
-        sixty = self.chain(18) + self.chain(18, 1) + self.chain(18, 2)
+        self.assertEqual(basis_of(chain(2)), (poly((1, X, u), (-1, Y, v)), poly((1, X, X)), poly((1, X, Y, v)), poly((1, Y, Y, v, v))))
+        sixty = chain(18) + chain(18, 1) + chain(18, 2)
         self.assertEqual(len(basis_of(sixty)), 60)
         self.assertEqual(len(shown(sixty)), 60)
         self.assertIs(is_shown(sixty, shown(sixty)), True)
-        more = self.chain(18) + self.chain(18, 1) + self.chain(19, 2)
+        more = chain(18) + chain(18, 1) + chain(19, 2)
         for passed in ((basis_of, more), (shown, more), (is_shown, more, None)):
             self.too_many(60, *passed)
         # Not all of one degree: that there are too many is seen in the end alone.
         self.too_many(60, basis_of, sixty + (poly((1, W), (1,)),))
-        self.assertEqual(len(basis_of(self.chain(18) + self.chain(18, 1) + self.chain(17, 2) + (poly((1, W), (1,)),))), 60)
+        self.assertEqual(len(basis_of(chain(18) + chain(18, 1) + chain(17, 2) + (poly((1, W), (1,)),))), 60)
         # Too many polynomials count ahead of too high degrees.
-        self.too_many(60, basis_of, self.chain(21) + self.chain(21, 1) + self.chain(21, 2))
+        self.too_many(60, basis_of, chain(21) + chain(21, 1) + chain(21, 2))
 
     def test_degrees(self):
-        self.assertEqual(basis_of(self.chain(20))[-1], poly((1,) + (Y, (0, 3)) * 20))
-        high = self.chain(20, 0, (W,))
+        self.assertEqual(basis_of(chain(20))[-1], poly((1,) + (Y, (0, 3)) * 20))
+        high = chain(20, 0, (W,))
         for passed in ((basis_of, high), (shown, high), (is_shown, high, None)):
             self.too_many(40, *passed)
         # High degrees on the way do not count.
@@ -128,7 +111,7 @@ class BasisOf(Case):
         long = tuple(dense(choose, (X, Y), 20) for _ in range(2))
         self.within(10, self.too_many, 400, basis_of, long)
         # Of several the first one in order counts.
-        self.too_many(400, basis_of, pair + self.chain(20, 0, ((0, 4),)))
+        self.too_many(400, basis_of, pair + chain(20, 0, ((0, 4),)))
 
     def test_multiples_of_primes(self):
         # What remainders do not see must be seen nevertheless.

@@ -2,14 +2,13 @@ import itertools
 from unittest import mock
 
 from helpers import ODD, PRIME, Case, at_path, chance, exchanged, parts_of, poly, power, wrong_kinds, wrong_lengths
-from ideals import is_sum, lead, less, plain_basis, rest_of
+from ideals import chain, dense, is_sum, lead, less, plain_basis, random_poly, rest_of
 from samewriting.basemaking import BASIS_PRIME
 from samewriting.bases import basis_of
 from samewriting.belonging import belonging, is_belonging, power_in, staying
 from samewriting.dividing import divided, is_basis
 from samewriting.errors import BadPolynomial, BadPolynomials, BadVariables, TooMany
 from samewriting.polynomials import is_polynomial, plus, scaled, times
-from test_bases import BasisOf, dense, random_poly
 
 X, Y, Z, W = (0, 0), (0, 1), (1, 0), (3, 15)
 P = poly((1, X, Y), (-1,))
@@ -88,11 +87,11 @@ class Belonging(Case):
                 self.raises(BadPolynomial, belonging, (P,), thing)
                 self.raises(BadPolynomial, is_belonging, (P,), thing, None)
                 self.raises(BadPolynomial, power_in, (poly((1, W)),), thing)
-        high = BasisOf().chain(20, 0, (W,))
+        high = chain(20, 0, (W,))
         self.raises(BadPolynomial, belonging, high, None)
         self.too_many(40, belonging, high, ONE)
         self.too_many(40, belonging, high, high[0])
-        many = BasisOf().chain(18) + BasisOf().chain(18, 1) + BasisOf().chain(19, 2)
+        many = chain(18) + chain(18, 1) + chain(19, 2)
         self.too_many(60, belonging, many, ONE)
         self.too_many(60, power_in, many, ONE)
         # The judge reckons with what it is told alone.
@@ -226,7 +225,7 @@ class PowerIn(Case):
     def test_variables(self):
         self.raises(BadVariables, power_in, (poly((1, W)),), ONE)
         self.raises(BadVariables, power_in, (ONE,), poly((1, X), (1, W)))
-        self.raises(BadVariables, power_in, BasisOf().chain(20, 0, (W,)), ONE)
+        self.raises(BadVariables, power_in, chain(20, 0, (W,)), ONE)
         self.assertEqual(self.check((poly((1, (3, 14))),), poly((1, (3, 14))))[0], "power")
         self.assertEqual(power_in(some=(Q,), polynomial=Q)[0], "power")
 
@@ -286,14 +285,14 @@ class Staying(Case):
 
     def test_bases_beyond_bounds(self):
         # No other one: neither of degrees nor of terms of the basis.
-        high = BasisOf().chain(20, 0, (W,))
+        high = chain(20, 0, (W,))
         self.too_many(40, basis_of, high)
         variables = tuple((0, room) for room in range(4)) + (W,)
         self.assertIs(staying(variables, high), None)
         choose = chance(7)
         long = tuple(dense(choose, (X, Y), 20) for _ in range(2))
         self.too_many(60, staying, (X, Y), long)
-        many = BasisOf().chain(18) + BasisOf().chain(18, 1) + BasisOf().chain(19, 2)
+        many = chain(18) + chain(18, 1) + chain(19, 2)
         variables = tuple((child, room) for child in range(2) for room in range(4))
         self.raises(BadPolynomials, staying, variables, many)
 

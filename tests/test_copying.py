@@ -1,12 +1,12 @@
 import itertools
 
-from helpers import (E, EF, ES, FOUR_THREES, ODD, Case, at_path, chance, comb, cycle, every_tree, exchanged, nodes_in, one_state, parts_of,
+from helpers import (EF, ES, ODD, Case, at_path, chance, comb, cycle, every_tree, exchanged, nodes_in, one_state, parts_of,
                      plain_state, random_kinds, random_set, readers_of, set_of, wrong_kinds, wrong_lengths)
 from templating import place_in, plain_written, random_reader, room, say
 from test_readers import HAND, doubling
 from test_tidying import plain_uses
 from samewriting.copying import copies, is_copies, most_copies
-from samewriting.errors import BadReader, TooMany
+from samewriting.errors import BadReader
 
 BOTH = (("e", 0), ("s", 1), ("t", 1))
 

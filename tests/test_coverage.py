@@ -2,7 +2,7 @@ from helpers import (E, EF, ES, FOUR_HUNDRED, ODD, Case, chance, comb, cycle, ev
                      random_set, set_of)
 from templating import LIST, PAIRS, are_pressed, plain_filled, random_template, say
 from samewriting.coverage import coverage, pruned
-from samewriting.errors import BadSet, BadTemplate, TooMany
+from samewriting.errors import BadSet, BadTemplate
 from samewriting.templates import is_template
 from test_templates import along, nested, to, when, with_body
 

@@ -1,7 +1,7 @@
 from helpers import (E, EF, ES, ODD, Case, balanced, chance, comb, cycle, every_tree, exchanged, numbers_of,
                      one_state, plain_state, plain_told, plain_worths, poly, power, random_kinds, random_numbers,
                      random_set, set_of, wrong_kinds, wrong_lengths)
-from samewriting.errors import BadNumbers, BadSet, BadTree, OtherKinds, TooMany
+from samewriting.errors import BadNumbers, BadSet, BadTree, OtherKinds
 from samewriting.numbers import is_numbers, kept, number_told, worths
 from samewriting.sets import is_set
 

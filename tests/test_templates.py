@@ -1,8 +1,8 @@
 import itertools
 
-from helpers import (EF, EFS, ES, ODD, Case, chance, cycle, every_tree, exchanged, one_state, random_kinds,
+from helpers import (EF, EFS, ES, ODD, Case, chance, cycle, every_tree, one_state, random_kinds,
                      random_set, set_of, wrong_kinds, wrong_lengths)
-from templating import (ENP, LIST, PAIRS, are_pressed, call, plain_called, plain_filled, plain_plain, plain_written, random_template,
+from templating import (ENP, LIST, PAIRS, are_pressed, call, plain_called, plain_filled, plain_plain, random_template,
                         random_writer, say)
 from samewriting.alike import same_templates
 from samewriting.codes import same_texts

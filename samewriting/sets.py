@@ -4,7 +4,7 @@ from samewriting.errors import BadNumber, BadSet
 from samewriting.groves import Grove
 from samewriting.trees import check_tree, is_kinds, listed
 from samewriting.values import is_between, is_rising_below, is_row, is_word
-from samewriting.walks import any_number, goals_in, place_of, tuples_below, walk
+from samewriting.walks import any_number, goals_in, led_to, place_of, tuples_below, walk
 
 
 def is_set(thing):
@@ -143,8 +143,8 @@ def is_finite(trees):
     check_set(trees)
     edges = _edges_met(trees)
     # A state that stands below itself, in trees of the set, can do so again and again.
-    for state in _states_below(edges, trees[4]):
-        if state in _states_below(edges, edges[state]):
+    for state in led_to(edges, trees[4]):
+        if state in led_to(edges, edges[state]):
             return False
     return True
 
@@ -166,16 +166,3 @@ def _edges_met(trees):
             states = [met[spot] for spot in spots]
             edges[row[place_of(trees[2], states)]].extend(states)
     return {state: sorted(set(edges[state])) for state in edges}
-
-
-def _states_below(edges, states):
-    """The states to which edges lead from some states, these among them."""
-    seen = {state: True for state in states}
-    waiting = list(states)
-    while waiting:
-        below = edges[waiting.pop()]
-        fresh = [state for state in below if state not in seen]
-        for state in fresh:
-            seen[state] = True
-        waiting.extend(fresh)
-    return list(seen)

@@ -4,7 +4,7 @@ from samewriting.lots import lots_of
 from samewriting.pieces import pressed
 from samewriting.readers import check_reader, states_with_end
 from samewriting.sets import met_states
-from samewriting.walks import any_number, place_of, rows_of, tuples_below, walk
+from samewriting.walks import any_number, led_to, place_of, rows_of, tuples_below, walk
 
 _NO_USE = -1
 
@@ -35,14 +35,7 @@ class Uses:
         for _, states, goal, _ in self.rows:
             for state in states:
                 below[goal][state] = True
-        found = {}
-        waiting = [state for state in self.met if self.reader[4][state] is not None]
-        while waiting:
-            state = waiting.pop()
-            if state not in found:
-                found[state] = True
-                waiting.extend(list(below[state]))
-        return found
+        return led_to(below, [state for state in self.met if self.reader[4][state] is not None])
 
     def _rooms_of_use(self):
         # For each room of a state the rooms of children that stand in it.
@@ -52,17 +45,8 @@ class Uses:
                 for item in pieces:
                     if item[0] == "room":
                         below[(goal, room)][(states[item[1]], item[2])] = True
-        found = {}
-        waiting = []
-        for state in self.met:
-            end = self.reader[4][state]
-            waiting.extend([(state, item[2]) for item in end or () if item[0] == "room"])
-        while waiting:
-            pair = waiting.pop()
-            if pair not in found:
-                found[pair] = True
-                waiting.extend(list(below[pair]))
-        return found
+        ends = [(state, self.reader[4][state] or ()) for state in self.met]
+        return led_to(below, [(state, item[2]) for state, end in ends for item in end if item[0] == "room"])
 
 
 def tidied(reader):

@@ -101,3 +101,16 @@ def pairs_met(one, other, most, goals):
     if goals_in(kinds, len(pairs)) > goals:
         raise TooMany(goals)
     return pairs, rows_of(kinds, pairs, step)
+
+
+def led_to(edges, begin):
+    """All to which edges lead from some, these among them: a dict with each of them."""
+    seen = {own: True for own in begin}
+    waiting = list(seen)
+    while waiting:
+        some = waiting.pop()
+        for goal in edges[some]:
+            if goal not in seen:
+                seen[goal] = True
+                waiting.append(goal)
+    return seen

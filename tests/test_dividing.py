@@ -2,6 +2,7 @@ from fractions import Fraction
 from math import gcd
 
 from helpers import ODD, PRIME, Case, chance, poly, power, wrong_kinds
+from ideals import less
 from samewriting.dividing import divided, is_basis, overlap
 from samewriting.errors import BadPolynomial, BadPolynomials
 from samewriting.polynomials import cleared, degree_of, is_polynomial, plus, scaled, times
@@ -18,16 +19,6 @@ def written(powers):
 def key(powers):
     """Greater powers first."""
     return -len(written(powers)), written(powers)
-
-
-def less(powers, other):
-    """What leads from other to powers, None if other does not divide them."""
-    counts = dict(powers)
-    for variable, many in other:
-        counts[variable] = counts.get(variable, 0) - many
-    if min(counts.values(), default=0) < 0:
-        return None
-    return tuple(sorted((variable, many) for variable, many in counts.items() if many))
 
 
 def joined(powers, other):

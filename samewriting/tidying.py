@@ -116,6 +116,8 @@ def _with_alike_states_joined(reader):
     numbers = {}
     marks = [[numbers.setdefault(rooms, len(numbers)) for rooms in row] for row in reader[3]]
     lot = lots_of(trees, met, {state: reader[4][state] for state in met}, marks)
+    if len(set(list(lot.values()))) == len(met):
+        return reader
 
     def rooms_at(kind, place):
         return reader[3][kind][place]
@@ -126,6 +128,8 @@ def _with_alike_states_joined(reader):
 def _with_alike_rooms_joined(reader):
     least = _least_alike(reader)
     kept = sorted(set(least))
+    if len(kept) == reader[2]:
+        return reader
     places = {room: kept.index(own) for room, own in enumerate(least)}
 
     def rooms_at(kind, place):

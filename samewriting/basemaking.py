@@ -33,15 +33,21 @@ class BasisMaker:
         self.active = []
         self.waiting = {}
         self.queue = []
+        self.turns = 0
         # If all powers of each given one have one degree, what is of lower degrees is not changed any more.
         self.is_steady = all([len({ring.degree(mono) for mono in terms}) < 2 for terms in given])
 
-    def run(self):
-        """Look at all overlaps; False if it is seen early that there will be too many polynomials."""
+    def run(self, patience=1 << 64):
+        """Look at all overlaps; False if it is seen early that there will be too many polynomials.
+
+        None if it takes more turns than there is patience for.
+        """
         for number, terms in enumerate(self.given):
             if terms:
                 heappush(self.queue, (self.ring.highest_degree(terms), max(terms), -1, number))
         while self.queue:
+            if self.turns > patience:
+                return None
             sugar, met, one, other = heappop(self.queue)
             if one < 0:
                 self.take_given(other, sugar)
@@ -119,6 +125,7 @@ class RemainderMaker(BasisMaker):
         """The rest by divisors, its first coefficient 1."""
         division = RemainderDivision(terms, finder, NO_LIMITS, self.prime)
         division.run(ENDLESS)
+        self.turns += division.turns
         return with_head_one({mono: number for mono, number, _ in division.rest}, self.prime)
 
     def reduced(self):
@@ -151,6 +158,11 @@ def _made_by(ring, given, prime):
     if not maker.run() or len(maker.active) > MOST_IN_BASIS:
         return None
     return maker.reduced()
+
+
+def is_soon_told(ring, given, patience):
+    """Whether the remainders of the basis take no more turns than there is patience for."""
+    return RemainderMaker(ring, given, BASIS_PRIME).run(patience) is not None
 
 
 def is_all(ring, given, likely):

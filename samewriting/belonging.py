@@ -1,6 +1,6 @@
 """Whether polynomials, or powers of them, are of an ideal; and what stays when all is divided by it."""
 
-from samewriting.basemaking import BASIS_PRIME, MOST_IN_BASIS, NO_LIMITS, is_all, remainders_made
+from samewriting.basemaking import BASIS_PRIME, MOST_IN_BASIS, NO_LIMITS, is_all, is_soon_told, remainders_made
 from samewriting.bases import basis_told, check_given, proof_told, ring_of
 from samewriting.dividing import is_basis
 from samewriting.errors import BadPolynomials, BadVariables, TooMany
@@ -16,7 +16,9 @@ from samewriting.vanishing import MOST_POWERS, check_variables
 from samewriting.wholemaking import whole_made
 
 _EXTRA = (3, 15)
-_EASY_POWERS = 2000000
+_EASY_POWERS = 200000
+_LONG_POWERS = 5000000
+_EASY_TURNS = 20000
 _MOST_POWERS = 60
 
 
@@ -81,11 +83,14 @@ def power_in(some, polynomial):
     if _EXTRA in ring.variables:
         raise BadVariables("(3, 15) is wanted for something else")
     basis = basis_told(ring, given)
-    # As long as it is easy, powers are looked at first: whether there is any right one is the longer question.
+    # What is easy is looked at first: powers, then whether there is any right one, then powers again.
     many = _least_power(ring, basis, polynomial, _EASY_POWERS)
+    wider, extended = _with_inverse(some, polynomial)
+    if many is None and not is_soon_told(wider, extended, _EASY_TURNS):
+        many = _least_power(ring, basis, polynomial, _LONG_POWERS)
     if many is None:
-        never = _never(some, polynomial)
-        if never is not None:
+        never = basis_told(wider, extended)
+        if never != ((((), 1),),):
             return ("never", never)
         many = _least_power(ring, basis, polynomial, ENDLESS)
     if many is None:
@@ -94,15 +99,14 @@ def power_in(some, polynomial):
     return ("power", many) + _factors_of(ring, given, ring.packed(power))
 
 
-def _never(some, polynomial):
-    """A basis with 1 less (3, 15) times the polynomial that has not 1 in it, None if there is none."""
+def _with_inverse(some, polynomial):
+    """The ring of some and (3, 15), and some and 1 less (3, 15) times the polynomial, packed."""
     ring = Ring(ring_of(some + (polynomial,)).variables + [_EXTRA])
     extra = ring.units[_EXTRA]
     # No power of the polynomial is in it exactly if the polynomial may be, somewhere, one over (3, 15).
     inverse = {mono + extra: -number for mono, number in ring.packed(polynomial).items()}
     inverse[0] = 1
-    basis = basis_told(ring, [ring.packed(other) for other in some] + [inverse])
-    return None if basis == ((((), 1),),) else basis
+    return ring, [ring.packed(other) for other in some] + [inverse]
 
 
 def _least_power(ring, basis, polynomial, patience):

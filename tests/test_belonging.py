@@ -210,6 +210,9 @@ class PowerIn(Case):
         total = poly(*[(1, variable) for variable in variables])
         self.within(10, self.too_many, 400, power_in, tuple(power(variable, 8) for variable in variables), total)
         self.assertEqual(self.within(10, power_in, tuple(power(variable, 3) for variable in variables), total)[:2], ("power", 9))
+        # Of six variables it is the power 43: that there is one is seen by remainders.
+        six = [(0, room) for room in range(6)]
+        self.within(20, self.too_many, 40, power_in, tuple(power(variable, 8) for variable in six), poly(*[(1, variable) for variable in six]))
         # Far from any power: it is not gone through.
         choose = chance(5)
         self.assertEqual(self.within(10, power_in, (dense(choose, (X, Y), 1),), dense(choose, (X, Y, Z, (2, 0)), 2))[0], "never")

@@ -46,12 +46,10 @@ class Reaching:
 
     def _begin(self, place, body, kind, states, nodes):
         """Let a row stand at a place, and at those of the bodies in it that are due, if no other has fewer nodes."""
-        best, rows = self.starts.get(place, (nodes, []))
-        if nodes < best:
-            best, rows = nodes, []
-        if nodes == best:
-            rows = rows + [(kind, states)]
-        self.starts[place] = (best, rows)
+        if place not in self.starts or nodes < self.starts[place][0]:
+            self.starts[place] = (nodes, [])
+        if nodes == self.starts[place][0]:
+            self.starts[place][1].append((kind, states))
         for index, item in enumerate(body):
             if item[0] == "if":
                 way = 0 if states[item[1]] in item[2] else 1

@@ -67,7 +67,7 @@ class Reaching:
         return climb.least_whole()
 
     def tree_of(self, kind, kids, state, nodes):
-        """The number of a tree, each tree once; it must still be lined up if it is new."""
+        """The number of a tree, each tree once; a new one is put into the line of all."""
         if (kind, kids) not in self.numbers:
             self.numbers[(kind, kids)] = self.grove.keep(kind, kids, state, nodes)
             self.grove.line_up([self.numbers[(kind, kids)]])

@@ -12,9 +12,8 @@ MOST_IN_BASIS = 60
 NO_LIMITS = (1 << 64, 1 << 64, 1 << 64)
 NO_REST = (0, 1 << 64, 1 << 64)
 
-# What is likely by remainders is so, but for numbers that are made to deceive: nobody thinks of these primes.
-BASIS_PRIME = 1734981236409817307
-_FURTHER_PRIME = 1398472650918273701
+# Remainders tell what is likely, never what is so: each of these primes may divide a coefficient.
+BASIS_PRIMES = (1734981236409817307, 1398472650918273701, 2305843009213693951)
 
 
 class BasisMaker:
@@ -35,7 +34,7 @@ class BasisMaker:
         self.queue = []
         self.turns = 0
         # If all powers of each given one have one degree, what is of lower degrees is not changed any more.
-        self.is_steady = all([len({ring.degree(mono) for mono in terms}) < 2 for terms in given])
+        self.is_steady = are_level(ring, given)
 
     def run(self, patience=1 << 64):
         """Look at all overlaps; False if it is seen early that there will be too many polynomials.
@@ -54,9 +53,13 @@ class BasisMaker:
             elif (one, other) in self.waiting:
                 del self.waiting[(one, other)]
                 self.take_overlap(one, other, met, sugar)
-            if self.is_steady and len(self.active) > MOST_IN_BASIS:
+            if self.is_enough():
                 return False
         return True
+
+    def is_enough(self):
+        """Whether it is seen early that there will be too many polynomials."""
+        return self.is_steady and len(self.active) > MOST_IN_BASIS
 
     def keep(self, terms, sugar):
         """Keep a polynomial, none of whose powers any first term so far divides."""
@@ -67,6 +70,9 @@ class BasisMaker:
         self._pair_up(number, divisor[0], worst)
         self.divisors.append(divisor)
         self.sugars.append(worst)
+        if divisor[0] == 0:
+            # All is of the ideal: no further overlap tells more.
+            self.queue = []
 
     def _drop_waiting(self, lead):
         """Overlaps that are told by those of both with the new divisor need not be looked at."""
@@ -148,23 +154,20 @@ def with_head_one(terms, prime):
     return trimmed({mono: terms[mono] * factor for mono in terms}, prime)
 
 
-def remainders_made(ring, given):
-    """The remainders of the polynomials of the only basis, in order; None if there are too many."""
-    return _made_by(ring, given, BASIS_PRIME)
+def are_level(ring, given):
+    """Whether all powers of each packed polynomial have one degree."""
+    return all([len({ring.degree(mono) for mono in terms}) < 2 for terms in given])
 
 
-def _made_by(ring, given, prime):
-    maker = RemainderMaker(ring, given, prime)
-    if not maker.run() or len(maker.active) > MOST_IN_BASIS:
-        return None
-    return maker.reduced()
+def prime_for(given):
+    """The first of some primes that divides no coefficient of the given ones, None if there is none."""
+    for prime in BASIS_PRIMES:
+        if all([number % prime for terms in given for number in list(terms.values())]):
+            return prime
+    return None
 
 
 def is_soon_told(ring, given, patience):
     """Whether the remainders of the basis take no more turns than there is patience for."""
-    return RemainderMaker(ring, given, BASIS_PRIME).run(patience) is not None
-
-
-def is_all(ring, given, likely):
-    """Whether 1 is of the ideal, as the remainders of its basis, made already, and those by a further prime tell."""
-    return likely == [{0: 1}] and _made_by(ring, given, _FURTHER_PRIME) == [{0: 1}]
+    prime = prime_for(given)
+    return prime is not None and RemainderMaker(ring, given, prime).run(patience) is not None

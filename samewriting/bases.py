@@ -1,7 +1,8 @@
 """Bases of ideals, and how their polynomials are made of given ones."""
 
-from samewriting.basemaking import MOST_IN_BASIS, is_all, remainders_made
+from samewriting.basemaking import MOST_IN_BASIS
 from samewriting.errors import BadPolynomials, TooMany
+from samewriting.foreseeing import ALL, MANY, foreseen
 from samewriting.judging import is_factored
 from samewriting.polynomials import is_polynomial
 from samewriting.putting import MOST_DEGREE, MOST_TERMS
@@ -34,22 +35,21 @@ def basis_of(some):
 
 def basis_told(ring, given):
     """As basis_of, of packed polynomials."""
-    # That it is beyond the bounds, or has 1 in it, is seen by remainders, ahead of reckoning with long numbers.
-    likely = remainders_made(ring, given)
-    _check_basis(ring, likely)
-    if is_all(ring, given, likely):
-        return ((((), 1),),)
-    basis = whole_made(ring, given, False)
-    _check_basis(ring, None if basis is None else [terms for terms, _ in basis])
-    return tuple([ring.unpacked(terms) for terms, _ in basis])
-
-
-def _check_basis(ring, basis):
-    """Raise TooMany if a basis, None for too many polynomials, is too long, then if one of it is beyond the bounds."""
-    if basis is None or len(basis) > MOST_IN_BASIS:
-        raise TooMany(MOST_IN_BASIS)
+    basis = basis_made(ring, given)
     for terms in basis:
         check_packed(ring, terms)
+    return tuple([ring.unpacked(terms) for terms in basis])
+
+
+def basis_made(ring, given):
+    """The packed polynomials of the only basis, in order; TooMany if it has more than 60."""
+    seen = foreseen(ring, given)
+    if seen == ALL:
+        return [{0: 1}]
+    basis = None if seen == MANY else whole_made(ring, given, False)
+    if basis is None or len(basis) > MOST_IN_BASIS:
+        raise TooMany(MOST_IN_BASIS)
+    return [terms for terms, _ in basis]
 
 
 def check_packed(ring, terms):

@@ -1,7 +1,7 @@
 """Whether polynomials, or powers of them, are of an ideal; and what stays when all is divided by it."""
 
-from samewriting.basemaking import BASIS_PRIME, MOST_IN_BASIS, NO_LIMITS, is_all, is_soon_told, remainders_made
-from samewriting.bases import basis_told, check_given, proof_told, ring_of
+from samewriting.basemaking import NO_LIMITS, is_soon_told, prime_for
+from samewriting.bases import basis_made, basis_told, check_given, proof_told, ring_of
 from samewriting.dividing import is_basis
 from samewriting.errors import BadPolynomials, BadVariables, TooMany
 from samewriting.judging import is_factored
@@ -13,7 +13,7 @@ from samewriting.reducing import ENDLESS, Division, Finder, RemainderDivision, d
 from samewriting.rings import Ring
 from samewriting.values import is_row, is_word
 from samewriting.vanishing import MOST_POWERS, check_variables
-from samewriting.wholemaking import whole_made
+from samewriting.wholemaking import whole_made, without_content
 
 _EXTRA = (3, 15)
 _EASY_POWERS = 200000
@@ -118,27 +118,38 @@ def _least_power(ring, basis, polynomial, patience):
     degree = max(1, ring.highest_degree(base))
     finder = _finder_of(ring, [ring.packed(other) for other in basis])
     # Remainders that are not 0 show that a rest is not 0; where they are 0, it is divided in whole numbers.
-    sure = all([divisor[1] % BASIS_PRIME for divisor in finder.divisors])
-    left = {0: 1} if sure else {}
+    prime = prime_for([{0: divisor[1]} for divisor in finder.divisors])
+    left = {0: 1}
     many = 0
-    while patience > 0 and ((many + 1) * degree <= MOST_DEGREE or sure and many < _MOST_POWERS):
+    while patience > 0 and ((many + 1) * degree <= MOST_DEGREE or prime is not None and many < _MOST_POWERS):
         many += 1
-        patience -= len(left) * len(base)
-        left = _next_rest(left, base, finder)
-        if not left and many * degree > MOST_DEGREE:
-            raise TooMany(MOST_DEGREE)
-        if not left:
-            if not _rest_by(ring, basis, _power_of(polynomial, many)):
+        if prime is not None:
+            patience -= len(left) * len(base)
+            left = _next_remainders(left, base, finder, prime)
+        if prime is None or not left:
+            if _is_power_in(base, finder, many):
+                if many * degree > MOST_DEGREE:
+                    raise TooMany(MOST_DEGREE)
                 return many
-            sure = False
+            prime = None
     return None
 
 
-def _next_rest(left, base, finder):
+def _next_remainders(left, base, finder, prime):
     """The remainders of the rest of the next power, of those of the one ahead of it."""
-    division = RemainderDivision(multiplied(left, base), finder, NO_LIMITS, BASIS_PRIME)
+    division = RemainderDivision(multiplied(left, base), finder, NO_LIMITS, prime)
     division.run(ENDLESS)
     return {mono: number for mono, number, _ in division.rest}
+
+
+def _is_power_in(base, finder, many):
+    """Whether a power of a packed polynomial leaves the rest 0, in whole numbers."""
+    left = {0: 1}
+    for _ in range(many):
+        division = Division(multiplied(left, base), finder, NO_LIMITS)
+        division.run(ENDLESS)
+        left = without_content(division.whole()[2])
+    return not left
 
 
 def _power_of(polynomial, many):
@@ -153,18 +164,11 @@ def staying(variables, some):
     check_given(some)
     if not all([variable in variables for variable in ring_of(some).variables]):
         raise BadPolynomials("other variables")
+    inner = ring_of(some)
+    basis = basis_made(inner, [inner.packed(polynomial) for polynomial in some])
     ring = Ring(list(variables))
-    given = [ring.packed(polynomial) for polynomial in some]
-    likely = remainders_made(ring, given)
-    if likely is None:
-        raise TooMany(MOST_IN_BASIS)
-    if is_all(ring, given, likely):
-        return ()
-    # Where there are few, so that they are told, they are told by the basis itself.
-    if _left_by(ring, [max(terms) for terms in likely]) is None:
-        return None
-    told = _left_by(ring, [max(terms) for terms, _ in whole_made(ring, given, False)])
-    return tuple([ring.powers_of(mono) for mono in told])
+    told = _left_by(ring, [ring.packed_powers(inner.powers_of(max(terms))) for terms in basis])
+    return None if told is None else tuple([ring.powers_of(mono) for mono in told])
 
 
 def _left_by(ring, leads):

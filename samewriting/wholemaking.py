@@ -7,17 +7,20 @@ remainders.
 
 from math import gcd
 
-from samewriting.basemaking import BASIS_PRIME, NO_LIMITS, NO_REST, BasisMaker, with_head_one
+from samewriting.basemaking import MOST_IN_BASIS, NO_LIMITS, NO_REST, BasisMaker, prime_for, with_head_one
 from samewriting.proofs import combined_proof
 from samewriting.reducing import ENDLESS, Division, Finder, RemainderDivision, divisor_of, overlap_at, terms_of
 
 
 class WholeMaker(BasisMaker):
-    """A basis in whole numbers. If it is proven, each divisor has a proof; the given ones count as -1, -2, .."""
+    """A basis in whole numbers. If it is proven, each divisor has a proof; the given ones count as -1, -2, ..
 
-    def __init__(self, ring, given, is_quick, is_proven):
+    If a prime is told, overlaps are passed by that leave 0 by its remainders.
+    """
+
+    def __init__(self, ring, given, prime, is_proven):
         super().__init__(ring, given)
-        self.is_quick = is_quick
+        self.prime = prime
         self.images = []
         self.image_finder = Finder(self.images, ring.divides)
         self.proofs = None
@@ -30,9 +33,9 @@ class WholeMaker(BasisMaker):
 
     def take_overlap(self, one, other, met, sugar):
         """Take the overlap of two divisors, unless it is likely to leave 0."""
-        if self.is_quick:
+        if self.prime is not None:
             image = overlap_at(self.images[one], self.images[other], met)
-            if RemainderDivision(image, self.image_finder, NO_REST, BASIS_PRIME).run(ENDLESS):
+            if RemainderDivision(image, self.image_finder, NO_REST, self.prime).run(ENDLESS):
                 return
         first = self.divisors[one]
         second = self.divisors[other]
@@ -50,17 +53,20 @@ class WholeMaker(BasisMaker):
             self._keep_image(rest)
 
     def _keep_image(self, terms):
-        image = with_head_one(terms, BASIS_PRIME)
-        if image and max(image) == max(terms):
+        if self.prime is None:
+            return
+        image = with_head_one(terms, self.prime)
+        if image:
             self.images.append(divisor_of(image))
         else:
             # From here on remainders tell nothing.
-            self.is_quick = False
+            self.prime = None
 
     def _divided_out(self, terms, sources, finder, numbers):
         """The cleared rest of the terms by the divisors of these numbers, and its proof, None if none is wanted."""
         division = Division(terms, finder, NO_LIMITS)
         division.run(ENDLESS)
+        self.turns += division.turns
         many, parts, rest = division.whole()
         if not rest:
             return {}, None
@@ -112,19 +118,33 @@ def _content_of(terms):
     return common if terms[max(terms)] > 0 else -common
 
 
+def without_content(terms):
+    """The terms without the common factor of their coefficients, that of the first term above 0."""
+    if not terms:
+        return terms
+    scale = _content_of(terms)
+    return {mono: terms[mono] // scale for mono in terms}
+
+
 def _times(terms, number):
     return {mono: terms[mono] * number for mono in terms}
 
 
 def whole_made(ring, given, is_proven):
-    """The polynomials of the only basis, in order, as (terms, proof); None if there are too many."""
-    told = _made(ring, given, True, is_proven)
+    """The polynomials of the only basis, in order, as (terms, proof); None if it is seen that there are too many."""
+    prime = prime_for(given)
+    told = None if prime is None else _made(ring, given, prime, is_proven)
     # What is made is of the ideal for sure; that it is a basis of all of it is seen by dividing.
-    if told is not None and WholeMaker(ring, given, False, False).is_basis_of_all([terms for terms, _ in told]):
+    if told is not None and WholeMaker(ring, given, None, False).is_basis_of_all([terms for terms, _ in told]):
         return told
-    return _made(ring, given, False, is_proven)
+    return _made(ring, given, None, is_proven)
 
 
-def _made(ring, given, is_quick, is_proven):
-    maker = WholeMaker(ring, given, is_quick, is_proven)
-    return maker.reduced() if maker.run() else None
+def _made(ring, given, prime, is_proven):
+    maker = WholeMaker(ring, given, prime, is_proven)
+    if not maker.run():
+        return None
+    if len(maker.active) > MOST_IN_BASIS:
+        # Nobody wants these divided by one another.
+        return [(terms_of(maker.divisors[number]), None) for number in maker.in_order()]
+    return maker.reduced()

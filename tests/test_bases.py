@@ -2,7 +2,7 @@ from unittest import mock
 
 from helpers import ODD, PRIME, Case, at_path, chance, exchanged, parts_of, poly, power, wrong_kinds, wrong_lengths
 from ideals import chain, dense, is_sum, plain_basis, random_poly
-from samewriting.basemaking import _FURTHER_PRIME, BASIS_PRIME
+from samewriting.basemaking import BASIS_PRIMES
 from samewriting.bases import basis_of, is_shown, shown
 from samewriting.dividing import divided, is_basis
 from samewriting.errors import BadPolynomials
@@ -12,6 +12,13 @@ X, Y, Z, W = (0, 0), (0, 1), (1, 0), (3, 15)
 P = poly((1, X, Y), (-1,))
 Q = poly((1, X, X))
 ONE = poly((1,))
+
+
+def product_of_primes():
+    told = 1
+    for prime in BASIS_PRIMES:
+        told *= prime
+    return told
 
 
 class BasisOf(Case):
@@ -115,7 +122,7 @@ class BasisOf(Case):
 
     def test_multiples_of_primes(self):
         # What remainders do not see must be seen nevertheless.
-        for prime in (PRIME, BASIS_PRIME, _FURTHER_PRIME):
+        for prime in BASIS_PRIMES + (product_of_primes(),):
             self.assertEqual(basis_of((poly((prime, X), (-1,)),)), (poly((prime, X), (-1,)),))
             self.assertEqual(basis_of((poly((prime, X), (-1,)), poly((prime, X, Y), (1,)))), (poly((1, Y), (1,)), poly((prime, X), (-1,))))
             self.assertEqual(basis_of((poly((prime, X), (-1,)), poly((prime, X), (1,)))), (ONE,))
@@ -142,25 +149,11 @@ class BasisOf(Case):
         # With a small prime remainders deceive often: what is told must be the same.
         choose = chance(6)
         for prime in (2, 3, 5):
-            with mock.patch("samewriting.wholemaking.BASIS_PRIME", prime), mock.patch("samewriting.basemaking.BASIS_PRIME", prime), \
-                    mock.patch("samewriting.bases.remainders_made", lambda ring, given: []):
+            with mock.patch("samewriting.basemaking.BASIS_PRIMES", (prime,)):
                 for _ in range(60):
                     some = tuple(random_poly(choose, (X, Y, Z), 2, choose.randint(1, 3)) for _ in range(choose.randint(1, 3)))
                     self.assertEqual(basis_of(some), plain_basis(some))
                     self.check_shown(some)
-
-    def test_remainders_are_those_of_the_basis(self):
-        from samewriting.basemaking import remainders_made
-        from samewriting.bases import ring_of
-        choose = chance(7)
-        for _ in range(40):
-            some = tuple(random_poly(choose, (X, Y, Z), 2, choose.randint(1, 3)) for _ in range(choose.randint(1, 3)))
-            ring = ring_of(some)
-            told = remainders_made(ring, [ring.packed(polynomial) for polynomial in some])
-            for polynomial, terms in zip(basis_of(some), told):
-                head = ring.packed(polynomial)
-                self.assertEqual(sorted(head), sorted(terms))
-                self.assertTrue(all((terms[mono] * head[max(head)] - head[mono]) % BASIS_PRIME == 0 for mono in head))
 
 
 class Shown(Case):

@@ -3,7 +3,7 @@ from unittest import mock
 
 from helpers import ODD, PRIME, Case, at_path, chance, exchanged, parts_of, poly, power, wrong_kinds, wrong_lengths
 from ideals import chain, dense, is_sum, lead, less, plain_basis, random_poly, rest_of
-from samewriting.basemaking import BASIS_PRIME
+from samewriting.basemaking import BASIS_PRIMES
 from samewriting.bases import basis_of
 from samewriting.belonging import belonging, is_belonging, power_in, staying
 from samewriting.dividing import divided, is_basis
@@ -218,10 +218,10 @@ class PowerIn(Case):
         self.assertEqual(self.within(10, power_in, (dense(choose, (X, Y), 1),), dense(choose, (X, Y, Z, (2, 0)), 2))[0], "never")
 
     def test_primes(self):
-        for prime in (PRIME, BASIS_PRIME):
+        for prime in BASIS_PRIMES:
             self.assertEqual(self.check((poly((prime, X, X), (1, Y)), power(Y, 2)), poly((1, X)))[:2], ("power", 4))
             self.assertEqual(self.check((poly((1, X, X)),), poly((1, X), (prime, Y)))[0], "never")
-        with mock.patch("samewriting.belonging.BASIS_PRIME", 3):
+        with mock.patch("samewriting.basemaking.BASIS_PRIMES", (3,)):
             self.assertEqual(self.check((poly((1, X, X), (-1, Y)), power(Y, 2)), poly((1, X), (3,)))[0], "never")
             self.assertEqual(self.check((poly((3, X, X), (1, Y)), power(Y, 2)), poly((1, X)))[:2], ("power", 4))
 

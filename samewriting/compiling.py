@@ -23,17 +23,17 @@ def writer_from(trees, template):
     for block in plain_of(kinds, template):
         row = []
         for pair, body in zip(kinds, block):
-            row.append(tuple([pressed_within(_due(body, states)) for states in tuples_below(trees[2], pair[1])]))
+            row.append(tuple([pressed_within(due_items(body, states)) for states in tuples_below(trees[2], pair[1])]))
         rows.append(tuple(row))
     return ("writer", kinds, trees, tuple(rows))
 
 
-def _due(body, states):
-    """The items of a body for children of these states, calls told as those of writers."""
+def due_items(body, states):
+    """The items of a body without for, for children of these states, calls told as those of writers."""
     told = []
     for item in body:
         if item[0] == "if":
-            told.extend(_due(item[3] if states[item[1]] in item[2] else item[4], states))
+            told.extend(due_items(item[3] if states[item[1]] in item[2] else item[4], states))
         elif item[0] == "call":
             told.append(("call", item[2], item[1]))
         else:

@@ -1,11 +1,12 @@
 """A scribe behind a reader, made one reader."""
 
+from samewriting.assembling import assembled
 from samewriting.errors import TooMany
 from samewriting.pieces import pressed_within
-from samewriting.readers import check_reader, states_with_end
+from samewriting.readers import check_reader
 from samewriting.scribes import check_scribe, goals_of, read_from
 from samewriting.types import check_goals, grown_signs
-from samewriting.walks import any_number, place_of, rows_of, tuples_below, walk
+from samewriting.walks import any_number, place_of, rows_of, walk
 
 _MOST_ROOMS = 8
 _MOST_STATES = 60
@@ -37,13 +38,7 @@ class Composer:
         kinds = trees[1]
         keys = walk(kinds, self._key_at, any_number)
         goals = rows_of(kinds, keys, self._key_at)
-        rows = []
-        for kind, pair in enumerate(kinds):
-            below = tuples_below(len(keys), pair[1])
-            rows.append(tuple([self._rooms_at(kind, [keys[number] for number in numbers]) for numbers in below]))
-        ends = tuple([self._end_of(key) for key in keys])
-        made = ("set", kinds, len(keys), goals, states_with_end(ends))
-        return ("reader", made, self.reader[2] * self.many, tuple(rows), ends)
+        return assembled(kinds, keys, goals, self.reader[2] * self.many, self._rooms_at, self._end_of)
 
     def _key_at(self, kind, keys):
         place = place_of(self.reader[1][2], [state for state, _ in keys])

@@ -46,7 +46,7 @@ def _check_even(numbers):
         raise NotEven("not even")
 
 
-def _spans_of(numbers):
+def spans_of(numbers):
     """The basis trees of a number reader; NotEven, TooMany."""
     _check_even(numbers)
     trees = numbers[1]
@@ -58,7 +58,7 @@ def _spans_of(numbers):
 def basis(numbers):
     """The basis trees of each state, in order."""
     check_numbers(numbers)
-    spans = _spans_of(numbers)
+    spans = spans_of(numbers)
     return tuple([tuple(spans.told(row)) for row in spans.lists])
 
 
@@ -66,14 +66,15 @@ def shares(numbers, tree):
     """How often each basis tree of its state is in a tree, as pairs (n, d)."""
     check_numbers(numbers)
     check_tree(numbers[1][1], tree)
-    spans = _spans_of(numbers)
+    spans = spans_of(numbers)
     state, found = worths_within(numbers, tree)
     vector = list(found) + [1]
     many, factors = combined([spans.vectors[known] for known in spans.lists[state]], vector)
-    return tuple([_lowest(factor, many) for factor in factors])
+    return tuple([lowest(factor, many) for factor in factors])
 
 
-def _lowest(number, below):
+def lowest(number, below):
+    """The pair (n, d) of the fraction without common factors."""
     common = gcd(number, below)
     return number // common, below // common
 
@@ -81,7 +82,7 @@ def _lowest(number, below):
 def ties(numbers):
     """The polynomials of the degree 1 at most, as stairs, that are 0 at all trees of each state."""
     check_numbers(numbers)
-    return _ties_told(_spans_of(numbers), numbers[2])
+    return _ties_told(spans_of(numbers), numbers[2])
 
 
 def _ties_told(spans, rooms):

@@ -14,17 +14,22 @@ def plain(trees, template):
 
 def plain_of(kinds, template):
     """As plain, of what surely is a template of a set of these kinds."""
+    told = blocks_without_for(kinds, template)
+    if len(told) > MOST_BLOCKS:
+        raise TooMany(MOST_BLOCKS)
+    if items_of(told) > MOST_IN_ALL:
+        raise TooMany(MOST_IN_ALL)
+    return told
+
+
+def blocks_without_for(kinds, template):
+    """The blocks of plain, however many blocks and items they are."""
     loops = Loops(len(template))
     for block in template:
         for body in block:
             loops.find_in(body)
-    if loops.in_all() > MOST_BLOCKS:
-        raise TooMany(MOST_BLOCKS)
     blocks = [tuple([loops.without_for(body) for body in block]) for block in template]
-    told = tuple(blocks + loops.blocks(kinds))
-    if items_of(told) > MOST_IN_ALL:
-        raise TooMany(MOST_IN_ALL)
-    return told
+    return tuple(blocks + loops.blocks(kinds))
 
 
 class Loops:

@@ -40,6 +40,10 @@ class Reading:
         self.state = states[-1]
         self.end = reader[4][self.state]
 
+    def text(self):
+        """What is written, the end being there; TooMany for too many letters."""
+        return self.gathering.text_of(self.end, [len(self.gathering.nodes) - 1])
+
 
 def rooms_at(reader, tree):
     """The state of a tree, and the texts of its rooms."""
@@ -67,8 +71,7 @@ def written(reader, tree):
     reading = _reading_of(reader, tree)
     if reading.end is None:
         raise NotLetBy("the state of the tree has no end")
-    gathering = reading.gathering
-    return gathering.text_of(reading.end, [len(gathering.nodes) - 1])
+    return reading.text()
 
 
 def domain(reader):

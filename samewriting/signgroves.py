@@ -8,21 +8,22 @@ from samewriting.walks import tuples_below
 
 
 class SignGrove(Grove):
-    """The least tree of each sign, a sign being the state of a tree and what its rooms hold.
+    """The least trees of each sign, `each` of them; a sign is the state of a tree and what its rooms hold.
 
     What rooms hold is told by signs, as in effects.Signs: rows with the first children put in are
     forms, each with its least children, and wait for the next child. A form counts as large as the
     tree that it begins, so trees and forms can be kept in order of their sizes.
     """
 
-    def __init__(self, reader, signs, most):
+    def __init__(self, reader, signs, most, each=1):
         trees = reader[1]
         super().__init__(trees[1], trees[2], trees[3], 1 << 64)
         self.signs = signs
         self.limit = most
+        self.each = each
         self.worths = []
         self.numbers = {}
-        self.met = {}
+        self.turns_of = {}
         self.forms = {}
         self.below = [tuples_below(self.many, rank) for _, rank in self.kinds]
         # For each state the (kind, place of a row, child) at which it stands.
@@ -46,53 +47,63 @@ class SignGrove(Grove):
 
     def _offer_tree(self, kind, place, kids, value):
         key = (self.rows[kind][place], value)
-        if key not in self.met:
+        if key not in self.turns_of:
             # That there are too many is seen here, long before all of them are in order.
-            if len(self.met) == self.limit:
+            if len(self.turns_of) == self.limit:
                 raise TooMany(self.limit)
-            self.met[key] = True
-        if key not in self.numbers:
+            self.turns_of[key] = 0
+        if self.turns_of[key] < self.each:
             self._offer_best(key, kind, kids)
 
     def _offer_form(self, kind, place, child, form, kids):
-        if form not in self.forms.get((kind, place, child), {}):
+        if len(self.forms.get((kind, place, child), {}).get(form, ())) < self.each:
             self._offer_best((kind, place, child, form), kind, kids)
 
     def _offer_best(self, key, kind, kids):
-        """Let the first of the offers for a key, in order, wait."""
+        """Let the first ones of the offers for a key, in order, wait."""
         nodes = 1 + sum([self.sizes[kid] for kid in kids])
         if nodes not in self.waiting:
             self.waiting[nodes] = {}
             heappush(self.queue, nodes)
-        waiting = self.waiting[nodes]
-        if key not in waiting or self.key_of(kind, kids) < self.key_of(waiting[key][0], waiting[key][1]):
-            waiting[key] = (kind, kids)
+        rows = self.waiting[nodes].setdefault(key, [])
+        rows.append((kind, kids))
+        spot = len(rows) - 1
+        while spot > 0 and self.key_of(kind, kids) < self.key_of(rows[spot - 1][0], rows[spot - 1][1]):
+            rows[spot - 1], rows[spot] = rows[spot], rows[spot - 1]
+            spot -= 1
+        if len(rows) > self.each:
+            rows.pop()
 
     def _settle_all(self, nodes):
         offers = self.waiting.pop(nodes)
         fresh = []
         begun = []
-        for key, (kind, kids) in offers.items():
-            if len(key) == 2 and key not in self.numbers:
-                fresh.append(self._keep_sign(key, kind, kids, nodes))
-            elif len(key) == 4 and key[3] not in self.forms.get(key[:3], {}):
-                begun.append((key, kids))
+        for key, rows in offers.items():
+            for kind, kids in rows:
+                if len(key) == 4:
+                    begun.append((key, kids))
+                elif self.turns_of[key] < self.each:
+                    fresh.append(self._keep_sign(key, kind, kids, nodes))
         self.line_up(fresh)
         for tree in fresh:
             self._put_in_forms(tree)
         for key, kids in begun:
-            self.forms.setdefault(key[:3], {})[key[3]] = kids
-            self._put_children_in(key, kids)
+            rows = self.forms.setdefault(key[:3], {}).setdefault(key[3], [])
+            if len(rows) < self.each:
+                rows.append(kids)
+                self._put_children_in(key, kids)
 
     def _keep_sign(self, key, kind, kids, nodes):
-        self.numbers[key] = len(self.heads)
+        self.turns_of[key] += 1
+        self.numbers.setdefault(key, len(self.heads))
         self.worths.append(key[1])
         return self.keep(kind, kids, key[0], nodes)
 
     def _put_in_forms(self, tree):
         for spot in self.spots[self.states[tree]]:
-            for form, kids in list(self.forms.get(spot, {}).items()):
-                self._put_in(spot, form, kids, tree)
+            for form, rows in list(self.forms.get(spot, {}).items()):
+                for kids in rows:
+                    self._put_in(spot, form, kids, tree)
 
     def _put_children_in(self, key, kids):
         kind, place, child, form = key

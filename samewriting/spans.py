@@ -51,7 +51,7 @@ class Spans(Grove):
             for valuer in self.valuers:
                 rooms.extend(valuer.terms_at(kind, states))
             rooms.append([(1, ())])
-            forms = [_summed(tie, rooms) for tie in ties]
+            forms = [summed(tie, rooms) for tie in ties]
             known = (len(ties), [terms for terms in forms if terms])
             self.forms[(kind, place)] = known
         return known[1]
@@ -81,7 +81,7 @@ class Spans(Grove):
         return tree
 
 
-def _summed(tie, rooms):
+def summed(tie, rooms):
     """The terms of the sum of the rooms, each as often as the tie tells."""
     told = {}
     for often, terms in zip(tie, rooms):

@@ -8,7 +8,7 @@ from samewriting.values import is_between, is_rising_below, is_row, is_word
 MOST_BLOCKS = 8
 MOST_IN_ALL = 100
 MOST_IFS = 12
-_MOST_BETWEEN = 8
+MOST_BETWEEN = 8
 
 
 def is_template(trees, thing):
@@ -74,7 +74,7 @@ def _is_for(trees, rank, thing, blocks):
 
 
 def _is_short_text(thing):
-    return is_text(thing) and len(thing) <= _MOST_BETWEEN
+    return is_text(thing) and len(thing) <= MOST_BETWEEN
 
 
 def check_template(trees, template):

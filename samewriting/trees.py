@@ -6,6 +6,7 @@ from samewriting.words import is_name
 
 MOST_NODES = 400
 MOST_LEVELS = 60
+MOST_LISTED = 3000
 
 
 def is_kinds(thing):
@@ -45,13 +46,14 @@ def fits(kinds, thing):
         levels += 1
         if nodes > MOST_NODES or levels > MOST_LEVELS:
             return False
-        if not all([_is_node(ranks, tree) for tree in row]):
+        if not all([is_node(ranks, tree) for tree in row]):
             return False
         row = [child for tree in row for child in tree[1:]]
     return True
 
 
-def _is_node(ranks, thing):
+def is_node(ranks, thing):
+    """Whether any value has the form of a node, by the ranks of names, its children being any values."""
     if not isinstance(thing, tuple) or not thing or not isinstance(thing[0], str):
         return False
     return thing[0] in ranks and len(thing) == ranks[thing[0]] + 1
@@ -104,10 +106,11 @@ def part(kinds, tree, path):
     """The tree to which a path leads."""
     check_kinds(kinds)
     check_tree(kinds, tree)
-    return _part_at(tree, path)
+    return part_at(tree, path)
 
 
-def _part_at(tree, path):
+def part_at(tree, path):
+    """As part, of what surely is a tree."""
     if not isinstance(path, tuple):
         raise BadPath("no tuple")
     for step in path:
@@ -121,7 +124,12 @@ def with_part(kinds, tree, path, other):
     """The tree with another one at the end of the path."""
     check_kinds(kinds)
     check_tree(kinds, tree)
-    _part_at(tree, path)
+    return exchanged_at(kinds, tree, path, other)
+
+
+def exchanged_at(kinds, tree, path, other):
+    """As with_part, of what surely is a tree of kinds."""
+    part_at(tree, path)
     check_tree(kinds, other)
     told = _put_at(tree, path, other)
     check_tree(kinds, told)
@@ -165,8 +173,8 @@ def trees_of(kinds, many):
     if not is_between(many, 1, 12):
         raise BadNumber("not from 1 to 12")
     counts = counts_to(kinds, many)
-    if counts[many] > 3000:
-        raise TooMany(3000)
+    if counts[many] > MOST_LISTED:
+        raise TooMany(MOST_LISTED)
     entries = trees_of_sizes(kinds, _sizes_within(kinds, counts, many))
     return tuple([entry[1] for entry in entries if entry[0] == many])
 

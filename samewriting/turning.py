@@ -1,9 +1,10 @@
 """Readers turned to writers, and writers turned to readers."""
 
+from samewriting.assembling import assembled
 from samewriting.errors import TooMany
 from samewriting.pieces import pressed, pressed_within
-from samewriting.readers import check_reader, states_with_end
-from samewriting.walks import goals_in, place_of, rows_of, tuples_below, walk
+from samewriting.readers import check_reader
+from samewriting.walks import goals_in, place_of, rows_of, walk
 from samewriting.writers import check_writer
 
 _MOST_STATES = 60
@@ -56,14 +57,12 @@ def reader_of(writer):
     keys = walk(kinds, ahead_of.key_at, _check_states)
     if goals_in(kinds, len(keys)) > _MOST_GOALS:
         raise TooMany(_MOST_GOALS)
+
+    def end_at(key):
+        return (("room", 0, 0),) if key[1] & 1 else None
+
     goals = rows_of(kinds, keys, ahead_of.key_at)
-    told = []
-    for kind, pair in enumerate(kinds):
-        told.append(tuple([ahead_of.rooms_at(kind, [keys[state] for state in states])
-                           for states in tuples_below(len(keys), pair[1])]))
-    ends = tuple([(("room", 0, 0),) if lot & 1 else None for _, lot in keys])
-    trees = ("set", kinds, len(keys), goals, states_with_end(ends))
-    return ("reader", trees, len(rows), tuple(told), ends)
+    return assembled(kinds, keys, goals, len(rows), ahead_of.rooms_at, end_at)
 
 
 def _check_states(many):

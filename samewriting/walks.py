@@ -82,25 +82,42 @@ def rows_of(kinds, keys, step):
 
 def pairs_met(one, other, most, goals):
     """The pairs of states of two sets of the same kinds that some tree has, and their rows."""
-    kinds = one[1]
-    # Where there are no more pairs than are let, too many goals so far are too many in the end.
-    sure = one[2] * other[2] <= most
+    return tuples_met([one, other], most, goals)
+
+
+def tuples_met(sets, most, goals):
+    """The tuples of states of some sets of the same kinds that some tree has, and their rows."""
+    kinds = sets[0][1]
+    # Where there are no more tuples than are let, too many goals so far are too many in the end.
+    sure = product_of_all([trees[2] for trees in sets]) <= most
 
     def crowd(many):
         if many > most:
             raise TooMany(most)
-        if sure and goals_in(kinds, many) > goals:
-            raise TooMany(goals)
+        if sure:
+            check_many_goals(kinds, many, goals)
 
     def step(kind, keys):
-        first = place_of(one[2], [key[0] for key in keys])
-        second = place_of(other[2], [key[1] for key in keys])
-        return one[3][kind][first], other[3][kind][second]
+        return tuple([trees[3][kind][place_of(trees[2], [key[spot] for key in keys])]
+                      for spot, trees in enumerate(sets)])
 
-    pairs = walk(kinds, step, crowd)
-    if goals_in(kinds, len(pairs)) > goals:
+    found = walk(kinds, step, crowd)
+    check_many_goals(kinds, len(found), goals)
+    return found, rows_of(kinds, found, step)
+
+
+def check_many_goals(kinds, many, goals):
+    """Raise TooMany if rows of so many states would have more goals."""
+    if goals_in(kinds, many) > goals:
         raise TooMany(goals)
-    return pairs, rows_of(kinds, pairs, step)
+
+
+def product_of_all(numbers):
+    """The product of numbers."""
+    told = 1
+    for number in numbers:
+        told *= number
+    return told
 
 
 def led_to(edges, begin):

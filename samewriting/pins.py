@@ -5,7 +5,7 @@ from samewriting.errors import TooMany
 from samewriting.forms import MOST_MADE, Forms
 from samewriting.numbers import check_numbers
 from samewriting.trees import MOST_LEVELS, MOST_NODES
-from samewriting.walks import tuples_below
+from samewriting.walks import product_of_all, tuples_below
 
 
 def pins(numbers):
@@ -31,6 +31,7 @@ class Pinning:
 
     def take_all(self):
         """Take the form trees, and all that comes of putting form trees, and trees above them, in surroundings."""
+        self._check_many()
         contexts = Contexts(self.forms)
         contexts.grow()
         for row in self.forms.trees:
@@ -44,6 +45,16 @@ class Pinning:
             for goal, states in zip(trees[3][kind], tuples_below(trees[2], pair[1])):
                 if contexts.found[goal]:
                     self._put_in_above(contexts, goal, kind, states)
+
+    def _check_many(self):
+        """Raise TooMany if trees with form trees below are too many for the surroundings of one state alone."""
+        ranks = [len(row) for row in self.forms.trees]
+        above = [0] * len(ranks)
+        for goal, rows in enumerate(self.forms.tellings.rows):
+            for _, states in rows:
+                above[goal] += product_of_all([ranks[state] for state in states])
+        if max([many for many, rank in zip(above, ranks) if rank > 1], default=0) > MOST_MADE:
+            raise TooMany(MOST_MADE)
 
     def _put_in_above(self, contexts, goal, kind, states):
         """Put the trees of a kind whose children are form trees of some states in all surroundings of their goal."""

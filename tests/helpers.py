@@ -216,6 +216,11 @@ def plain_state(trees, tree):
     return row[place]
 
 
+def is_in_set(trees, tree):
+    """Whether a tree is in a set, told straight from the words of the document."""
+    return plain_state(trees, tree) in trees[4]
+
+
 def nodes_in(tree):
     return 1 + sum(nodes_in(child) for child in tree[1:])
 

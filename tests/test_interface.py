@@ -38,7 +38,24 @@ INTERFACE = (
     ("types", "signs(reader,words) within(reader,words) always(reader,words) is_answer(reader,words,thing)"),
     ("composing", "composed(reader,scribe)"), ("tidying", "tidied(reader) merged(reader)"),
     ("copying", "copies(reader) is_copies(reader,thing) most_copies(reader)"),
-    ("coverage", "coverage(trees,template) pruned(trees,template)"))
+    ("coverage", "coverage(trees,template) pruned(trees,template)"),
+    ("filling", "filled(trees,template,tree)"), ("texts", "template_text(trees,template) template_of(trees,text)"),
+    ("treetexts", "tree_text(kinds,tree) tree_of(kinds,text)"), ("desk", ""),
+    ("edits", "changed(reader,tree,path,other) stretch(reader,tree,path,other) around(reader,tree,path)"),
+    ("forms", "form_trees(numbers) ranks(numbers) make_up(numbers,tree) form(numbers)"),
+    ("shorts", "is_short(thing) length(short) tally(short) letter_at(short,index) stretch_of(short,begin,end) cut_out(short,begin,end) turned_about(short) "
+               "behind(one,other) times_in(short,word) first_in(short,word)"),
+    ("known", "parity_short(many) golden_short(many)"),
+    ("maps", "is_map(kinds,others,thing) mapped(kinds,others,frames,tree) coming_into(kinds,frames,trees)"),
+    ("making", "mirrored(reader) spelled(reader,texts) limited(trees,reader) joined(one,other) chosen(trees,one,other) folded(reader,kinds,frames)"),
+    ("origins", "origins(reader,tree) marked_kinds(kinds) marked(reader) one_mark(kinds) bared(kinds,tree) same_origins(one,other,degree,size)"),
+    ("pins", "pins(numbers)"), ("readings", "readings(reader,text) is_read(reader,text,thing)"),
+    ("tables", "is_table(kinds,thing) size_told(kinds,table) depth_told(kinds,table) tree_told(kinds,table) table_from(kinds,tree) least_table(kinds,table) "
+               "table_state(trees,table)"),
+    ("unlike", "first_unlike(one,other) is_ahead(one,other)"),
+    ("writings", "writing(reader,table) long_length(reader,table) long_tally(reader,table) writer_at(reader,table,index) first_unlike_of(one,other,table)"))
+
+CLASSES = (("desk", "Desk(trees)", "say(row) kept()"), ("edits", "Keeper(reader,tree)", "put(path,other) undo() tree() text() kept(path)"))
 
 FOLDER = os.path.dirname(samewriting.__file__)
 
@@ -52,6 +69,34 @@ class Interface(unittest.TestCase):
                 told = getattr(held, name)
                 self.assertEqual(told.__module__, held.__name__)
                 self.assertEqual(",".join(inspect.signature(told).parameters), parameters, name)
+
+    def test_classes(self):
+        for module, made, methods in CLASSES:
+            held = import_module("samewriting." + module)
+            for place, function in enumerate([made] + methods.split()):
+                name, parameters = function[:-1].split("(")
+                if place == 0:
+                    own = getattr(held, name)
+                    self.assertEqual(own.__module__, held.__name__)
+                    self.assertEqual(",".join(inspect.signature(own).parameters), parameters)
+                else:
+                    # Each method stands in the class itself.
+                    self.assertEqual(",".join(list(inspect.signature(vars(own)[name]).parameters)[1:]), parameters, name)
+
+    def test_the_whole_interface(self):
+        # As the document lists it, where the document is at hand.
+        document = os.path.join(os.path.dirname(FOLDER), "..", "shared", "DOC.md")
+        if not os.path.exists(document):
+            self.skipTest("no document")
+        with open(document, encoding="utf-8") as held:
+            rows = [row[len("- samewriting/"):].strip() for row in held if row.startswith("- samewriting/")]
+        listed = [row.split(".py: ") for row in rows]
+        self.assertEqual([module for module, _ in listed], [module for module, _ in INTERFACE])
+        for (module, names), (_, functions) in zip(listed[1:], INTERFACE[1:]):
+            own = [function.split("(")[0] for function in functions.split()]
+            own.extend(made.split("(")[0] for place, made, _ in CLASSES if place == module)
+            wanted = [name for name in names.rstrip(".").split(", ") if name != "KEPT"]
+            self.assertEqual(sorted(own), sorted(wanted))
 
     def test_init_defines_nothing(self):
         with open(os.path.join(FOLDER, "__init__.py"), encoding="ascii") as held:

@@ -1,6 +1,7 @@
 """Effects of texts on rows: for each row the row behind the text from there on. Each is told by a number."""
 
 from samewriting.machines import LETTERS
+from samewriting.rowforms import RowForms
 
 
 class Effects:
@@ -47,18 +48,15 @@ class Effects:
         return told
 
 
-class Signs:
+class Signs(RowForms):
     """How signs of trees for a reader come of those of their children: the effects of the rooms alone.
 
-    A form is a row of the reader in which the effects of the first children are put in: for each
-    room the effects ahead of, between and behind the rooms that are still to come. So what unlike
-    children lead to alike is gone through once.
+    A form has an effect for each part of a room.
     """
 
     def __init__(self, reader, effects):
-        self.reader = reader
+        super().__init__(reader)
         self.effects = effects
-        self.links = {}
 
     def rooms_at(self, kind, place, kids):
         """The effects of the rooms of a tree, by those of its children."""
@@ -69,11 +67,8 @@ class Signs:
         end = self.reader[4][state]
         return None if end is None else self.effects.of_pieces(end, [rooms])
 
-    def begun(self, kind, place):
-        """The form of a row with nothing put in."""
-        return tuple([self._parted(pieces) for pieces in self.reader[3][kind][place]])
-
-    def _parted(self, pieces):
+    def parted(self, pieces):
+        """The effects ahead of, between and behind the rooms in pieces."""
         told = [self.effects.none]
         for item in pieces:
             if item[0] == "say":
@@ -82,15 +77,8 @@ class Signs:
                 told.append(self.effects.none)
         return tuple(told)
 
-    def put_in(self, kind, place, child, form, rooms):
-        """The form with the effects of the rooms of a child put in, those of the children ahead of it being in."""
-        key = (kind, place, child)
-        if key not in self.links:
-            self.links[key] = [[item[1:] for item in pieces if item[0] == "room" and item[1] >= child]
-                               for pieces in self.reader[3][kind][place]]
-        return tuple([self._with_child(links, own, child, rooms) for links, own in zip(self.links[key], form)])
-
-    def _with_child(self, links, own, child, rooms):
+    def with_child(self, links, own, child, rooms):
+        """The effects of a room with those of the rooms of a child put in."""
         behind = self.effects.behind
         told = [own[0]]
         for (other, room), effect in zip(links, own[1:]):

@@ -10,7 +10,7 @@ from samewriting.walks import tuples_below
 class SignGrove(Grove):
     """The least trees of each sign, `each` of them; a sign is the state of a tree and what its rooms hold.
 
-    What rooms hold is told by signs, as in effects.Signs: rows with the first children put in are
+    What rooms hold is told by signs, as by the classes of rowforms: rows with the first children put in are
     forms, each with its least children, and wait for the next child. A form counts as large as the
     tree that it begins, so trees and forms can be kept in order of their sizes.
     """
@@ -25,6 +25,10 @@ class SignGrove(Grove):
         self.numbers = {}
         self.turns_of = {}
         self.forms = {}
+        self.many_forms = 0
+        # For each tree the first one of its sign; what comes of forms, told by their numbers, with a sign put in.
+        self.firsts = []
+        self.known = {}
         self.below = [tuples_below(self.many, rank) for _, rank in self.kinds]
         # For each state the (kind, place of a row, child) at which it stands.
         self.spots = [[] for _ in range(self.many)]
@@ -56,7 +60,7 @@ class SignGrove(Grove):
             self._offer_best(key, kind, kids)
 
     def _offer_form(self, kind, place, child, form, kids):
-        if len(self.forms.get((kind, place, child), {}).get(form, ())) < self.each:
+        if len(self.forms.get((kind, place, child), {}).get(form, (0, ()))[1]) < self.each:
             self._offer_best((kind, place, child, form), kind, kids)
 
     def _offer_best(self, key, kind, kids):
@@ -88,32 +92,54 @@ class SignGrove(Grove):
         for tree in fresh:
             self._put_in_forms(tree)
         for key, kids in begun:
-            rows = self.forms.setdefault(key[:3], {}).setdefault(key[3], [])
+            number, rows = self._numbered(key[:3], key[3])
             if len(rows) < self.each:
                 rows.append(kids)
-                self._put_children_in(key, kids)
+                self._put_children_in(key, number, kids)
+
+    def _numbered(self, spot, form):
+        """The number of a form, and the children in it so far."""
+        forms = self.forms.setdefault(spot, {})
+        if form not in forms:
+            forms[form] = (self.many_forms, [])
+            self.many_forms += 1
+        return forms[form]
 
     def _keep_sign(self, key, kind, kids, nodes):
         self.turns_of[key] += 1
-        self.numbers.setdefault(key, len(self.heads))
+        self.firsts.append(self.numbers.setdefault(key, len(self.heads)))
         self.worths.append(key[1])
         return self.keep(kind, kids, key[0], nodes)
 
     def _put_in_forms(self, tree):
         for spot in self.spots[self.states[tree]]:
-            for form, rows in list(self.forms.get(spot, {}).items()):
+            for form, (number, rows) in list(self.forms.get(spot, {}).items()):
+                told = self._told_with(spot, form, number, tree)
                 for kids in rows:
-                    self._put_in(spot, form, kids, tree)
+                    self._offer_put_in(spot, told, kids + (tree,))
 
-    def _put_children_in(self, key, kids):
+    def _put_children_in(self, key, number, kids):
         kind, place, child, form = key
         for tree in self.lists[self.below[kind][place][child]]:
-            self._put_in(key[:3], form, kids, tree)
+            self._offer_put_in(key[:3], self._told_with(key[:3], form, number, tree), kids + (tree,))
 
-    def _put_in(self, spot, form, kids, tree):
+    def _told_with(self, spot, form, number, tree):
+        """What comes of a form with a tree of some sign put in: a form, or what the rooms hold."""
+        if self.each == 1:
+            return self._put_in(spot, form, tree)
+        key = (number, self.firsts[tree])
+        if key not in self.known:
+            self.known[key] = self._put_in(spot, form, tree)
+        return self.known[key]
+
+    def _put_in(self, spot, form, tree):
         kind, place, child = spot
         told = self.signs.put_in(kind, place, child, form, self.worths[tree])
+        return self.signs.done(told) if child + 1 == self.kinds[kind][1] else told
+
+    def _offer_put_in(self, spot, told, kids):
+        kind, place, child = spot
         if child + 1 == self.kinds[kind][1]:
-            self._offer_tree(kind, place, kids + (tree,), self.signs.done(told))
+            self._offer_tree(kind, place, kids, told)
         else:
-            self._offer_form(kind, place, child + 1, told, kids + (tree,))
+            self._offer_form(kind, place, child + 1, told, kids)

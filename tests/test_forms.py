@@ -66,7 +66,7 @@ class ByWords(Case):
     def test_form_trees(self):
         choose = chance(1)
         seen = set()
-        for _ in range(120):
+        for _ in range(70):
             kinds = choose.choice((ES, (("a", 0), ("b", 0), ("s", 1)), (("e", 0), ("s", 1), ("t", 1))))
             numbers = random_even(choose, kinds, 2)
             told = form_trees(numbers)
@@ -99,7 +99,7 @@ class ByWords(Case):
 
     def test_make_ups(self):
         choose = chance(3)
-        for _ in range(100):
+        for _ in range(60):
             kinds = random_kinds(choose)
             numbers = random_even(choose, kinds, 3)
             told = form_trees(numbers)
